@@ -1,0 +1,1 @@
+"""Growwebs: endless webs that grow from a finite book."""

@@ -1,0 +1,138 @@
+"""Books for the tests, and a plain web that is grown and searched without the package's help."""
+
+import heapq
+import random
+
+from growwebs.books import Book
+from growwebs.errors import WebError
+from growwebs.pieces import Piece
+
+
+def ladder():
+    return Book("base", {
+        "base": Piece(0, "..", [(0, 1, 1)], [("rung", (0, 1))]),
+        "rung": Piece(2, "..", [("a", 0, 1), ("b", 1, 1), (0, 1, 1)], [("rung", (0, 1))])})
+
+
+def tent():
+    return Book("s", {
+        "s": Piece(0, "..", [(0, 1, 1)], [("k", (0, 1))]),
+        "k": Piece(2, ".", [("a", 0, 1), ("b", 0, 1)])})
+
+
+def rails():
+    return Book("gate", {
+        "gate": Piece(0, "..", [(0, 1, 1)], [("rail", (0, 1))]),
+        "rail": Piece(2, "..", [("a", 0, 1), ("b", 1, 2)], [("rail", (0, 1))])})
+
+
+def twigs():
+    return Book("root", {
+        "root": Piece(0, ".", [], [("t", (0,))]),
+        "t": Piece(1, "..", [("a", 0, 1), ("a", 1, 2)], [("t", (0,)), ("t", (1,))])})
+
+
+def hander():
+    """A book whose places are handed on over several pieces, with other letters at each."""
+    return Book("s", {
+        "s": Piece(0, "xyz", [(0, 1, 5), (1, 2, 7)], [("p", (2, 0, 1)), ("q", (1,))]),
+        "p": Piece(3, "u", [("a", 0, 1), ("c", 0, 2)],
+                   [("r", ("c", "a")), ("q", ("b",)), ("r", (0, "b"))]),
+        "r": Piece(2, "v.", [("b", 0, 3), (0, 1, 4)], [("q", ("b",)), ("p", (0, 1, "b"))]),
+        "q": Piece(1, ".", [("a", 0, 9)])})
+
+
+class PlainWeb:
+    """The pieces to a depth that grow from a kind, with everything written out."""
+
+    def __init__(self, pieces, kind, depth):
+        self.told = {}
+        self.lies = {}
+        self.letters = {}
+        self.ties = {}
+        self.kinds = {}
+        mouth = {letter: ("mouth", letter) for letter in "abc"[:pieces[kind].mouth]}
+        for name in mouth.values():
+            self.ties[name] = {}
+            self.lies[name] = []
+        self._grow(pieces, kind, (), mouth, depth)
+
+    def _grow(self, pieces, kind, row, mouth, depth):
+        piece = pieces[kind]
+        self.kinds[row] = kind
+        names = dict(mouth)
+        for number, letter in enumerate(piece.letters):
+            names[number] = (row, number)
+            self.letters[(row, number)] = letter
+            self.ties[(row, number)] = {}
+            self.lies[(row, number)] = []
+        for told, name in names.items():
+            self.told[(row, told)] = name
+            self.lies[name].append(row)
+        for one, other, length in piece.ties:
+            self.ties[names[one]][names[other]] = length
+            self.ties[names[other]][names[one]] = length
+        if depth > 0:
+            for number, (below, places) in enumerate(piece.buds):
+                under = {letter: names[told] for letter, told in zip("abc", places)}
+                self._grow(pieces, below, row + (number,), under, depth - 1)
+
+    def search(self, start, barred=()):
+        """For each place that is reached the pair (distance, how many shortest ways)."""
+        found = {start: (0, 1)}
+        closed = set()
+        queue = [(0, repr(start), start)]
+        while queue:
+            length, _, name = heapq.heappop(queue)
+            if name in closed:
+                continue
+            closed.add(name)
+            if name in barred and name != start:
+                continue
+            for other, add in self.ties[name].items():
+                far = length + add
+                if other not in found or far < found[other][0]:
+                    found[other] = (far, found[name][1])
+                    heapq.heappush(queue, (far, repr(other), other))
+                elif far == found[other][0]:
+                    found[other] = (far, found[other][1] + found[name][1])
+        return found
+
+
+def count_pairs(book):
+    """How many pairs of mouth letters all kinds of a book have together."""
+    return sum(piece.mouth * (piece.mouth - 1) // 2 for piece in book.pieces.values())
+
+
+def random_piece(rng, kinds, mouth, lengths):
+    new = rng.choice([1, 1, 2, 2, 3])
+    places = list("abc"[:mouth]) + list(range(new))
+    ties = []
+    for index, one in enumerate(places):
+        for other in places[index + 1:]:
+            if isinstance(other, int) and rng.random() < 0.55:
+                ties.append((one, other, rng.choice(lengths)))
+    buds = []
+    for _ in range(rng.choice([0, 1, 1, 2])):
+        kind = rng.choice(list(kinds))
+        if kinds[kind] <= len(places):
+            buds.append((kind, tuple(rng.sample(places, kinds[kind]))))
+    letters = "".join(rng.choice("ab.") for _ in range(new))
+    return Piece(mouth, letters, ties, buds)
+
+
+def random_book(rng, lengths=(1, 1, 2, 3, 9)):
+    """A small random book; tries until one has no fault."""
+    while True:
+        kinds = {kind: rng.choice([1, 2, 2, 3]) for kind in "pqr"[:rng.choice([1, 2, 2, 3])]}
+        pieces = {kind: random_piece(rng, kinds, kinds[kind], lengths) for kind in kinds}
+        pieces["seed"] = random_piece(rng, kinds, 0, lengths)
+        try:
+            return Book("seed", pieces)
+        except WebError:
+            continue
+
+
+def random_books(seed, many, lengths=(1, 1, 2, 3, 9)):
+    rng = random.Random(seed)
+    return [random_book(rng, lengths) for _ in range(many)]
