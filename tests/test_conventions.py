@@ -1,0 +1,153 @@
+"""[1], [2], [61]: the conventions, for all modules at once."""
+
+import importlib
+import inspect
+import unittest
+from pathlib import Path
+
+from growwebs.books import Book, Place
+from growwebs.distances import distance
+from growwebs.errors import BadBook, NoPiece, WebError
+from growwebs.inner import Inside
+from growwebs.pieces import Piece
+from growwebs.rows import Loop, Row
+from growwebs.tales import Tale
+from growwebs.times import Times
+from tests.values import any_values
+from tests.webs import ladder
+
+INTERFACE = {
+    "pieces": {"Piece": ["mouth", "letters", "ties=()", "buds=()"]},
+    "books": {
+        "Book": ["seed", "pieces"], "Book.kind_at": ["row"], "Book.place": ["row", "told"],
+        "Book.pieces_of": ["place"], "Book.letter_of": ["place"], "Book.neighbours": ["place"],
+        "Book.grown": ["depth", "*most=2000"], "Place": ["book", "row", "number"]},
+    "rows": {
+        "Row": ["stretches=()"], "Row.total": [], "Row.bud": ["index"], "Row.plain": ["*most=2000"],
+        "Row.beginning": ["many"], "Row.behind": ["many"], "Row.before": ["other"], "Row.common": ["other"],
+        "Row.__add__": ["other"], "Loop": ["head", "word", "tail"], "Loop.row_at": ["number"]},
+    "times": {
+        "Times": ["modulus", "spans"], "Times.least": [], "Times.last": [], "Times.up_to": ["number"],
+        "Times.after": ["number"], "Times.nth": ["index"], "Times.ending": [], "Times.__and__": ["other"],
+        "Times.__or__": ["other"], "Times.__sub__": ["other"], "Times.__xor__": ["other"], "Times.__invert__": []},
+    "tales": {
+        "Tale": ["early", "lines"], "Tale.__call__": ["number"], "Tale.along": ["step", "start"],
+        "Tale.below": ["other"], "Tale.meets": ["other"], "Tale.within": ["most"], "Tale.silent": [],
+        "Tale.ending": [], "Tale.__add__": ["other"], "Tale.__or__": ["other"]},
+    "inner": {
+        "Inside": ["book"], "Inside.least": ["kind", "one", "other"],
+        "Inside.stretch": ["kind", "one", "other"], "Inside.together": ["kind"]},
+    "distances": {
+        "distance": ["one", "other"], "is_between": ["place", "one", "other"], "next_places": ["one", "other"]},
+}
+
+
+def told_parameters(function):
+    told = []
+    for parameter in inspect.signature(function).parameters.values():
+        if parameter.name == "self":
+            continue
+        star = "*" if parameter.kind == parameter.KEYWORD_ONLY else ""
+        default = "" if parameter.default is parameter.empty else f"={parameter.default!r}"
+        told.append(star + parameter.name + default)
+    return told
+
+
+class ConventionsTest(unittest.TestCase):
+
+    def test_each_name_stands_in_its_module(self):
+        for name, entries in INTERFACE.items():
+            module = importlib.import_module(f"growwebs.{name}")
+            for entry, parameters in entries.items():
+                owner, _, method = entry.partition(".")
+                thing = getattr(module, owner)
+                self.assertEqual(thing.__module__, module.__name__)
+                if method:
+                    self.assertIn(method, vars(thing), entry)
+                    thing = vars(thing)[method]
+                self.assertEqual(told_parameters(thing), parameters, entry)
+
+    def test_equality_is_defined_for_what_is_equal_by_value(self):
+        for owner in (Piece, Book, Place, Row, Times, Tale):
+            self.assertIn("__eq__", vars(owner))
+        for owner in (Loop, Inside):
+            self.assertNotIn("__eq__", vars(owner))
+        self.assertIsInstance(vars(Book)["is_finite"], property)
+        self.assertIsInstance(vars(Times)["endless"], property)
+
+    def test_objects_of_other_classes_are_unequal(self):
+        values = any_values()
+        for at, one in enumerate(values):
+            for other in values[at + 1:]:
+                if one.__class__ is not other.__class__:
+                    same = isinstance(one, int) and isinstance(other, int) and one == other
+                    self.assertIs(one == other, same)
+                    self.assertIs(one != other, not same)
+
+    def test_objects_are_no_keys(self):
+        for value in (ladder(), ladder().place((), 0), Piece(0, "."), Row(), Times(1, []), Tale([], [[]] * 6)):
+            with self.assertRaises(TypeError):
+                hash(value)
+
+    def test_lists_and_tuples_stand_for_each_other(self):
+        def deep(value, make):
+            if isinstance(value, (list, tuple)):
+                return make(deep(entry, make) for entry in value)
+            return value
+        ties, buds = [("a", 0, 1), (1, 0, 2)], [("k", ("b", 0))]
+        self.assertEqual(Piece(2, "..", deep(ties, list), deep(buds, list)),
+                         Piece(2, "..", deep(ties, tuple), deep(buds, tuple)))
+        self.assertEqual(Row(deep([((0, 1), 3)], list)), Row(deep([((0, 1), 3)], tuple)))
+        self.assertEqual(Times(3, deep([(1, 0, None)], list)), Times(3, deep([(1, 0, None)], tuple)))
+        lines = [[(1, 2)], [], [], [], [], []]
+        self.assertEqual(Tale([None, 1], deep(lines, list)), Tale((None, 1), deep(lines, tuple)))
+        self.assertEqual(Loop([0], [1], [2]).row_at(1), Loop((0,), (1,), (2,)).row_at(1))
+
+    def test_true_and_false_are_no_integers(self):
+        for make in (lambda: Piece(True, "."), lambda: Piece(2, "..", [(0, 1, True)]),
+                     lambda: Piece(0, "..", [(False, 1, 1)]), lambda: Row([((0,), True)]),
+                     lambda: Row([((False,), 1)]), lambda: Times(True, []), lambda: Times(2, [(True, 0, None)]),
+                     lambda: Tale([True], [[]] * 6), lambda: Tale([], [[(0, False)]] + [[]] * 5),
+                     lambda: ladder().place((), False), lambda: ladder().kind_at((False,)),
+                     lambda: Row([((0,), 2)]).bud(True), lambda: Loop((), (0,), ()).row_at(True)):
+            with self.assertRaises(WebError):
+                make()
+        self.assertNotIn(True, Times(1, [(0, 0, None)]))
+
+    def test_a_call_that_raises_changes_nothing(self):
+        row, spans, lines = [0, 9], [[0, 0, None], [7, 0, 0]], [[[0, 0]], []]
+        pieces = {"s": Piece(0, "."), "K": 1}
+        for make, error in ((lambda: ladder().place(row, 0), NoPiece), (lambda: Times(2, spans), WebError),
+                            (lambda: Tale([], lines), WebError), (lambda: Book("s", pieces), BadBook)):
+            with self.assertRaises(error):
+                make()
+        self.assertEqual((row, spans, lines, set(pieces)),
+                         ([0, 9], [[0, 0, None], [7, 0, 0]], [[[0, 0]], []], {"s", "K"}))
+
+    def test_equal_calls_return_equal_results(self):
+        book = ladder()
+        one, other = book.place((0,) * 9, 0), book.place((), 1)
+        for call in (lambda: book.grown(3), lambda: book.neighbours(one), lambda: book.pieces_of(one),
+                     lambda: distance(one, other), lambda: Row([((0, 1), 9)]).behind(3),
+                     lambda: Tale([1], [[(0, 1)]] * 6).ending(), lambda: ~Times(3, [(1, 4, None)]),
+                     lambda: (~Times(3, [(1, 4, None)])).spans, lambda: (Tale([1], [[(0, 1)]] * 6) + 1).lines):
+            self.assertEqual(call(), call())
+
+    def test_the_seed_is_looked_at_ahead_of_the_pieces(self):
+        with self.assertRaises(BadBook) as caught:
+            Book(pieces={"K": None, "s": None}, seed=[])
+        self.assertEqual(caught.exception.kind, [])
+
+
+class ReadmeTest(unittest.TestCase):
+
+    def test_the_example_of_the_readme(self):
+        text = (Path(__file__).parent.parent / "README.md").read_text()
+        code = text.split("```python\n")[1].split("```")[0]
+        names = {}
+        exec(code, names)
+        told = [line.split("  #") for line in code.splitlines() if "  # " in line and not line.startswith("far =")]
+        self.assertGreater(len(told), 5)
+        for line, want in told:
+            if " = " not in line:
+                self.assertEqual(eval(line.strip(), names), eval(want.strip(), names), line)
