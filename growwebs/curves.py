@@ -5,6 +5,8 @@ t = at on, up to the next bend, the value is worth + rise * (t - at). The first 
 that tell the same at all integers have the same curve. The curve of no lines is (): it tells None.
 """
 
+from growwebs.search import index_at
+
 
 def least_lines(lines):
     """The lines that are least somewhere, as (first t, worth, rise), ascending in t."""
@@ -49,24 +51,11 @@ def lines_of(curve):
     return tuple([(worth - rise * at, rise) for at, worth, rise in curve])
 
 
-def bend_at(curve, number):
-    """The bend of a curve, not (), that tells the value at a number."""
-    low = 0
-    high = len(curve)
-    while high - low > 1:
-        middle = (low + high) // 2
-        if curve[middle][0] <= number:
-            low = middle
-        else:
-            high = middle
-    return curve[low]
-
-
 def value_of(curve, number):
     """The value of a curve at an integer from 0 on."""
     if not curve:
         return None
-    at, worth, rise = bend_at(curve, number)
+    at, worth, rise = curve[index_at(curve, number)]
     return worth + rise * (number - at)
 
 
@@ -80,7 +69,7 @@ def bends_of_both(curve, other):
     """The list of (at, worth, rise, other worth, other rise) for all bends of two curves."""
     found = []
     for at in sorted(set([bend[0] for bend in curve] + [bend[0] for bend in other])):
-        rise, other_rise = bend_at(curve, at)[2], bend_at(other, at)[2]
+        rise, other_rise = curve[index_at(curve, at)][2], other[index_at(other, at)][2]
         found.append((at, value_of(curve, at), rise, value_of(other, at), other_rise))
     return found
 

@@ -8,6 +8,8 @@ behind the part's end, and no shorter period that divides this one tells the sam
 
 from math import lcm
 
+from growwebs.search import index_at
+
 BOTH = 1
 ONE = 2
 OTHER = 4
@@ -94,19 +96,6 @@ def end_of(parts, at):
     if at + 1 < len(parts):
         return parts[at + 1][0]
     return None
-
-
-def index_at(parts, number):
-    """The index of the part in which an integer from 0 on lies."""
-    low = 0
-    high = len(parts)
-    while high - low > 1:
-        middle = (low + high) // 2
-        if parts[middle][0] <= number:
-            low = middle
-        else:
-            high = middle
-    return low
 
 
 def chosen(one, other, full, table):

@@ -9,19 +9,26 @@ def handed_to(pieces, pair):
     return [(below, place) for _, below, place in hanging_at(pieces[kind], letter)]
 
 
-def steps_back(lines, goal):
-    """How many steps the shortest way to the goal has, for all from which one leads there."""
-    behind = {pair: [] for pair in lines}
+def turned_lines(lines):
+    """For each pair or kind the list of those that lead to it."""
+    above = {pair: [] for pair in lines}
     for pair in lines:
         for below in lines[pair]:
-            behind[below].append(pair)
+            above[below].append(pair)
+    return above
+
+
+def steps_back(lines, goal):
+    """How many steps the shortest way to the goal has, for all from which one leads there."""
+    above = turned_lines(lines)
     steps = {goal: 0}
     waiting = [goal]
     at = 0
     while at < len(waiting):
-        for pair in behind[waiting[at]]:
+        here = waiting[at]
+        for pair in above[here]:
             if pair not in steps:
-                steps[pair] = steps[waiting[at]] + 1
+                steps[pair] = steps[here] + 1
                 waiting.append(pair)
         at += 1
     return steps
@@ -29,14 +36,12 @@ def steps_back(lines, goal):
 
 def without_dead_ends(lines):
     """The lines among those pairs from which one can go on for ever."""
-    above = {pair: [] for pair in lines}
+    above = turned_lines(lines)
     left = {pair: len(lines[pair]) for pair in lines}
-    for pair in lines:
-        for below in lines[pair]:
-            above[below].append(pair)
     waiting = [pair for pair in lines if left[pair] == 0]
     while waiting:
-        for pair in above[waiting.pop()]:
+        here = waiting.pop()
+        for pair in above[here]:
             left[pair] = left[pair] - 1
             if left[pair] == 0:
                 waiting.append(pair)
@@ -88,7 +93,8 @@ def goes_on(seed, pieces):
     met = [seed]
     at = 0
     while at < len(met):
-        for kind, _ in pieces[met[at]].buds:
+        piece = pieces[met[at]]
+        for kind, _ in piece.buds:
             if kind not in met:
                 met.append(kind)
         at += 1
