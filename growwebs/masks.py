@@ -115,6 +115,9 @@ def chosen(one, other, full, table):
 def combined_part(start, end, part, other, table):
     """The part from start to end of what the table chooses of two parts."""
     period = lcm(part[1], other[1])
+    if period == 1:
+        # Most parts of most sets have all integers or none, so this is worth a way of its own.
+        return (start, 1, chosen(part[2], other[2], 1, table))
     if end is not None:
         period = min(period, end - start)
     masks = []
