@@ -4,7 +4,7 @@ from growwebs.checks import is_word
 from growwebs.errors import BadBook, BadBud, HandedOn, NoPiece, NoPlace, OtherBook, TooLong
 from growwebs.errors import TooMany
 from growwebs.growing import grow, has_more
-from growwebs.pieces import NO_LETTER, Piece, is_place
+from growwebs.pieces import Piece, is_place
 from growwebs.rings import first_ring, goes_on, greatest_lies
 from growwebs.rows import LONGEST_TUPLE, count_row, first_of_row, is_row, kept_row
 from growwebs.walks import MOST_LIES, Plan, lying_in, mouth_at, ties_at, walk

@@ -24,7 +24,8 @@ class Inside:
         if one == other:
             return (0, 1)
         first, second = sorted([MOUTH.index(one), MOUTH.index(other)])
-        return self._stretches[kind][(first, second)]
+        stretch = self._stretches[kind][(first, second)]
+        return None if stretch is None else stretch[:2]
 
     def together(self, kind):
         """The mouth letters in groups that are joined by ways within."""

@@ -23,6 +23,7 @@ BREACHES = {
     "L7 float": {"a.py": "def f():\n    return 1.5\n"},
     "L7 divide": {"a.py": "def f(a, b):\n    return a / b\n"},
     "L7 generator": {"a.py": "def f(xs):\n    return any(x for x in xs)\n"},
+    "L7 star": {"a.py": "def f(xs):\n    return f(*xs[0])\n"},
     "L8": {"a.py": "def f(x):\n    return hash(x)\n"},
     "L10 line": {"a.py": "NAME = '" + "a" * 120 + "'\n"},
     "L10 function": {"a.py": "def f():\n" + "    k = 1\n" * 40},
@@ -40,6 +41,9 @@ BREACHES = {
             "b.py": "from pack.a import f\n\n\ndef g():\n    return f()\n"},
     "L17": {"a.py": "def f(x):\n    x.mro = 1\n"},
     "L18": {"a.py": "def f(x):\n    return x.nowhere\n"},
+    "L18 property": {"a.py": "class A:\n    @property\n    def far(self):\n        return 1\n\n\n"
+                             "class B:\n    def __init__(self):\n        self.far = 1\n\n\n"
+                             "def f(x):\n    return x.far\n"},
     "L19": {"a.py": "def f(x):\n    try:\n        return x()\n    except Exception:\n        return 1\n"},
     "L20": {"a.py": "def f(x, y):\n    return x is y\n"},
     "L22": {"a.py": "def f(xs):\n    return list(map=xs)\n"},

@@ -6,15 +6,20 @@ import unittest
 from pathlib import Path
 
 from growwebs.books import Book, Place
+from growwebs.cuts import Bridges, Cuts, is_cut, joined
 from growwebs.distances import distance
-from growwebs.errors import BadBook, NoPiece, WebError
+from growwebs.errors import BadBook, NoPiece, NoPlace, OtherBook, TooFar, WebError
+from growwebs.far import far_distance, tale_between, tale_to
 from growwebs.inner import Inside
 from growwebs.pieces import Piece
+from growwebs.reasons import Reason, reason
+from growwebs.routes import Route, route, route_length
 from growwebs.rows import Loop, Row
 from growwebs.tales import Tale
 from growwebs.times import Times
+from growwebs.ways import Ways
 from tests.values import any_values
-from tests.webs import ladder
+from tests.webs import ladder, twigs
 
 INTERFACE = {
     "pieces": {"Piece": ["mouth", "letters", "ties=()", "buds=()"]},
@@ -39,6 +44,21 @@ INTERFACE = {
         "Inside.stretch": ["kind", "one", "other"], "Inside.together": ["kind"]},
     "distances": {
         "distance": ["one", "other"], "is_between": ["place", "one", "other"], "next_places": ["one", "other"]},
+    "ways": {
+        "Ways": ["one", "other"], "Ways.total": [], "Ways.fewest_ties": [], "Ways.through": ["place"],
+        "Ways.way_at": ["number"], "Ways.number_of": ["way"]},
+    "reasons": {
+        "Reason": ["length", "kinds", "rows"], "reason_holds": ["one", "other", "reason"], "reason": ["one", "other"]},
+    "routes": {
+        "Route": ["steps", "kinds"], "route_length": ["one", "other", "route"], "route": ["one", "other"]},
+    "cuts": {
+        "joined": ["one", "other", "without=()"], "is_cut": ["place", "one", "other"],
+        "Cuts": ["one", "other"], "Cuts.total": [], "Cuts.cut_at": ["number"], "Cuts.number_of": ["place"],
+        "Bridges": ["one", "other"], "Bridges.total": [], "Bridges.bridge_at": ["number"],
+        "Bridges.number_of": ["pair"]},
+    "far": {
+        "far_distance": ["book", "one", "other"], "tale_to": ["book", "place", "loop", "told"],
+        "tale_between": ["book", "loop", "told", "tail", "other"]},
 }
 
 
@@ -70,7 +90,7 @@ class ConventionsTest(unittest.TestCase):
     def test_equality_is_defined_for_what_is_equal_by_value(self):
         for owner in (Piece, Book, Place, Row, Times, Tale):
             self.assertIn("__eq__", vars(owner))
-        for owner in (Loop, Inside):
+        for owner in (Loop, Inside, Ways, Reason, Route, Cuts, Bridges):
             self.assertNotIn("__eq__", vars(owner))
         self.assertIsInstance(vars(Book)["is_finite"], property)
         self.assertIsInstance(vars(Times)["endless"], property)
@@ -130,8 +150,36 @@ class ConventionsTest(unittest.TestCase):
         for call in (lambda: book.grown(3), lambda: book.neighbours(one), lambda: book.pieces_of(one),
                      lambda: distance(one, other), lambda: Row([((0, 1), 9)]).behind(3),
                      lambda: Tale([1], [[(0, 1)]] * 6).ending(), lambda: ~Times(3, [(1, 4, None)]),
-                     lambda: (~Times(3, [(1, 4, None)])).spans, lambda: (Tale([1], [[(0, 1)]] * 6) + 1).lines):
+                     lambda: (~Times(3, [(1, 4, None)])).spans, lambda: (Tale([1], [[(0, 1)]] * 6) + 1).lines,
+                     lambda: vars(reason(one, other)), lambda: vars(route(one, other)),
+                     lambda: Ways(one, other).way_at(3), lambda: far_distance(book, one, other),
+                     lambda: tale_to(book, one, Loop((0,), (0,), ()), 0).lines,
+                     lambda: tale_between(book, Loop((0,), (0,), ()), 0, (0,), 1).early):
             self.assertEqual(call(), call())
+
+    def test_lists_and_tuples_for_what_goes_between_places(self):
+        book = ladder()
+        one, other = book.place([], 0), book.place([0], 1)
+        for make in (list, tuple):
+            self.assertEqual(Ways(one, other).number_of(make(Ways(one, other).way_at(1))), 1)
+            self.assertIs(joined(one, other, make([book.place((), 1), book.place((0,), 0)])), False)
+            self.assertEqual(route_length(one, other, Route(make([make([make([]), 0, 1]), ([0], "b", 1)]), {})), 2)
+            self.assertEqual(tale_between(book, Loop([0], (0,), ()), 0, make([0, 0]), 1)(5), 3)
+        self.assertFalse(is_cut(one, one, other))
+
+    def test_two_wrong_arguments_at_once(self):
+        book = ladder()
+        one, strange = book.place((), 0), twigs().place((), 0)
+        long = book.place((0,) * 300, 0)
+        for call, error in ((lambda: tale_to(book, strange, Loop((9,), (0,), ()), None), OtherBook),
+                            (lambda: tale_to(book, long, Loop((9,), (0,), ()), None), TooFar),
+                            (lambda: tale_between(book, Loop((9,), (0,), ()), None, (9,), None), NoPiece),
+                            (lambda: tale_between(book, Loop((0,), (0,), ()), None, (9,), None), NoPlace),
+                            (lambda: joined(one, strange, [None]), OtherBook),
+                            (lambda: far_distance(book, strange, one), OtherBook),
+                            (lambda: reason(one, strange), OtherBook)):
+            with self.assertRaises(error):
+                call()
 
     def test_the_seed_is_looked_at_ahead_of_the_pieces(self):
         with self.assertRaises(BadBook) as caught:

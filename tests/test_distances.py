@@ -8,11 +8,7 @@ from growwebs.distances import distance, is_between, next_places
 from growwebs.errors import OtherBook
 from growwebs.pieces import Piece
 from growwebs.rows import Row
-from tests.webs import PlainWeb, count_pairs, hander, ladder, random_books, rails, tent, twigs
-
-
-def names(places):
-    return [(place.row, place.number) for place in places]
+from tests.webs import PlainWeb, count_pairs, hander, ladder, names, random_books, rails, tent, twigs
 
 
 class DistancesTest(unittest.TestCase):

@@ -2,6 +2,8 @@
 
 from growwebs.errors import WebError
 from growwebs.pieces import Piece
+from growwebs.reasons import Reason
+from growwebs.routes import Route
 from growwebs.rows import Loop, Row
 from growwebs.tales import Tale
 from growwebs.times import Times
@@ -26,6 +28,7 @@ def any_values():
         nested(20, lambda value: {"k": value}),
         book, book.place((), 0), Piece(0, "."), Row([((0,), 3)]), Loop((), (0,), ()),
         Times(2, [(0, 0, None)]), Tale([1], [[]] * 6), WebError(), [book], (book.place((), 1),),
+        Reason(0, {}, {}), Route([], {}), [Route([], {})],
     ]
 
 

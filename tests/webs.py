@@ -99,6 +99,70 @@ class PlainWeb:
         return found
 
 
+    def ways(self, one, other):
+        """All shortest ways from one name to another one, in order."""
+        back = self.search(other)
+        found = []
+        waiting = [[one]] if one in back else []
+        while waiting:
+            way = waiting.pop()
+            here = way[-1]
+            if here == other:
+                found.append(way)
+                continue
+            for step, add in self.ties[here].items():
+                if step in back and back[step][0] + add == back[here][0]:
+                    waiting.append(way + [step])
+        return sorted(found)
+
+    def joins(self, one, other, without=(), tie=None):
+        """Whether a way leads from one name to the other, by no barred name and not by the tie."""
+        if one in without or other in without:
+            return False
+        met, waiting = {one}, [one]
+        while waiting:
+            here = waiting.pop()
+            for step in self.ties[here]:
+                if step not in met and step not in without and {here, step} != set(tie or ()):
+                    met.add(step)
+                    waiting.append(step)
+        return other in met
+
+
+def strip(lengths=(1, 1)):
+    """A ladder without rungs but the first one: two ways side by side that meet again at each piece."""
+    return Book("s", {"s": Piece(0, ".", [], [("k", (0,))]),
+                      "k": Piece(1, "...", [("a", 0, lengths[0]), ("a", 1, lengths[1]), (0, 2, 1), (1, 2, 1)],
+                                 [("k", (2,))])})
+
+
+def nest():
+    """A book in which parts stand one behind the other, within kinds within kinds."""
+    pieces = {"s": Piece(0, "..", [], [("a", (0, 1))])}
+    for kind, below in zip("abcd", "bcde"):
+        pieces[kind] = Piece(2, "...", [], [(below, ("a", 0)), (below, (0, 1)), (below, (1, 2)), (below, (2, "b"))])
+    pieces["e"] = Piece(2, ".", [("a", 0, 1), (0, "b", 2)])
+    return Book("s", pieces)
+
+
+def names(places):
+    """The pairs (row, number) of some places."""
+    return [(place.row, place.number) for place in places]
+
+
+def near_web(book, depth=2, most=4000):
+    """A plain web in which all short ways among the places to a depth are, and these places."""
+    far = min(depth + 4 + count_pairs(book), 9)
+    while far > depth + 2:
+        try:
+            book.grown(far, most=most)
+            break
+        except WebError:
+            far -= 1
+    web = PlainWeb(book.pieces, book.seed, far)
+    return web, [name for name in web.letters if len(name[0]) <= depth]
+
+
 def count_pairs(book):
     """How many pairs of mouth letters all kinds of a book have together."""
     return sum(piece.mouth * (piece.mouth - 1) // 2 for piece in book.pieces.values())

@@ -295,6 +295,8 @@ def check_attribute(self, module, node):
     if called and name not in self.methods and name not in tables.METHODS:
         if name not in self.assigned:
             self.tell(module, node, "L25", f"the method {name} is not used")
+    if name in self.assigned and is_property(self, name):
+        self.tell(module, node, "L18", f"{name} is a property and an attribute")
     if not called and name not in self.assigned and not is_property(self, name):
         self.tell(module, node, "L18", f"no class assigns the attribute {name}")
 
@@ -303,7 +305,19 @@ def is_property(self, name):
     return any(item.decorator_list for _, _, item in self.methods.get(name, []))
 
 
+def is_plain_star(value):
+    """Whether what stands behind a star in a call is a name, an attribute off a name, or such."""
+    if isinstance(value, (ast.List, ast.Tuple)):
+        return all(is_plain_star(item) for item in value.elts)
+    if isinstance(value, ast.Attribute):
+        return isinstance(value.value, ast.Name)
+    return isinstance(value, (ast.Name, ast.Constant))
+
+
 def check_call(self, module, node):
+    for item in node.args:
+        if isinstance(item, ast.Starred) and not is_plain_star(item.value):
+            self.tell(module, node, "L7", "what may not stand behind a star")
     if isinstance(node.func, ast.Constant):
         self.tell(module, node, "L7", "a literal is called")
     if not isinstance(node.func, ast.Name):
