@@ -49,27 +49,40 @@ def is_cut(place, one, other):
     return not joined(one, other, [place])
 
 
-def chain_between(one, other):
-    """The pair (Site, chain) of what lies on all ways from one place to another one."""
-    check_book(one.book, other)
-    plan = one.book.plan
-    begin, end = name_of_place(one), name_of_place(other)
-    patch = Patch(plan, [begin[0], end[0]])
-    gadgets = gadget_tables(plan)
-    net = net_of_patch(patch, gadgets)
-    told = on_all_ways(net, spot_in(patch, begin[0], begin[1]), spot_in(patch, end[0], end[1]))
-    if told is None:
-        raise NotJoined()
-    if begin == end:
-        return Site(plan, [], []), (0, 0, (), ())
-    rows = [row_of(patch, at) for at in range(len(patch.kinds))]
-    chain = chain_of(net, told[0], told[1], patch.kinds, plan, gadgets)
-    return Site(plan, patch.kinds, rows), chain
+class OnAll:
+    """What lies on all ways from one place to another one: a chain and where it is in the web."""
+
+    def __init__(self, one, other):
+        check_book(one.book, other)
+        plan = one.book.plan
+        begin, end = name_of_place(one), name_of_place(other)
+        patch = Patch(plan, [begin[0], end[0]])
+        gadgets = gadget_tables(plan)
+        net = net_of_patch(patch, gadgets)
+        ends = [spot_in(patch, row, number) for row, number in (begin, end)]
+        told = on_all_ways(net, ends[0], ends[1])
+        if told is None:
+            raise NotJoined()
+        self.book = one.book
+        self.most = max(len(begin[0]), len(end[0])) + MOST_BELOW
+        self.site = Site(plan, patch.kinds, [row_of(patch, at) for at in range(len(patch.kinds))])
+        self.chain = (0, 0, (), ())
+        if begin != end:
+            self.chain = chain_of(net, told[0], told[1], patch.kinds, plan, gadgets)
 
 
-def near_name(value, book, most):
-    """The name of a value that is a place of the book with a row of at most most numbers, or None."""
-    if not isinstance(value, Place) or count_row(value.row) > most or value.book != book:
+def told_at(on_all, number, what):
+    """What is told of the cut or bridge with a number: a name, or two."""
+    if not is_within(number, 0, on_all.chain[what] - 1):
+        raise NoSuch(number)
+    return name_at(on_all.site, on_all.chain, number, what)
+
+
+def near_name(on_all, value):
+    """The name of a value that is a place of the book not too far down, or None."""
+    if not isinstance(value, Place) or count_row(value.row) > on_all.most:
+        return None
+    if value.book != on_all.book:
         return None
     return name_of_place(value)
 
@@ -78,28 +91,25 @@ class Cuts:
     """All places between two places that are on every way from the one to the other."""
 
     def __init__(self, one, other):
-        self._site, self._chain = chain_between(one, other)
+        self._on_all = OnAll(one, other)
         self.one = one
         self.other = other
-        self._most = max(count_row(one.row), count_row(other.row)) + MOST_BELOW
 
     def total(self):
         """How many there are."""
-        return self._chain[CUTS]
+        return self._on_all.chain[CUTS]
 
     def cut_at(self, number):
         """The one with just so many of them ahead of it."""
-        if not is_within(number, 0, self.total() - 1):
-            raise NoSuch(number)
-        row, spot = name_at(self._site, self._chain, number, CUTS)
+        row, spot = told_at(self._on_all, number, CUTS)
         return Place(self.one.book, row, spot)
 
     def number_of(self, place):
         """How many of them are ahead of one of them."""
-        name = near_name(place, self.one.book, self._most)
+        name = near_name(self._on_all, place)
         found = None
         if name is not None:
-            found = index_of(self._site, self._chain, name, CUTS)
+            found = index_of(self._on_all.site, self._on_all.chain, name, CUTS)
         if found is None:
             raise NotOnAll(place)
         return found
@@ -109,30 +119,27 @@ class Bridges:
     """All ties that are on every way from one place to another one."""
 
     def __init__(self, one, other):
-        self._site, self._chain = chain_between(one, other)
+        self._on_all = OnAll(one, other)
         self.one = one
         self.other = other
-        self._most = max(count_row(one.row), count_row(other.row)) + MOST_BELOW
 
     def total(self):
         """How many there are."""
-        return self._chain[BRIDGES]
+        return self._on_all.chain[BRIDGES]
 
     def bridge_at(self, number):
         """The pair of places of the tie with just so many of them ahead of it."""
-        if not is_within(number, 0, self.total() - 1):
-            raise NoSuch(number)
-        pair = name_at(self._site, self._chain, number, BRIDGES)
+        pair = told_at(self._on_all, number, BRIDGES)
         return tuple([Place(self.one.book, row, spot) for row, spot in pair])
 
     def number_of(self, pair):
         """How many of them are ahead of one of them, told by its two places."""
         names = [None]
         if is_pair(pair):
-            names = [near_name(place, self.one.book, self._most) for place in pair]
+            names = [near_name(self._on_all, place) for place in pair]
         found = None
         if None not in names:
-            found = index_of(self._site, self._chain, tuple(names), BRIDGES)
+            found = index_of(self._on_all.site, self._on_all.chain, tuple(names), BRIDGES)
         if found is None:
             raise NotOnAll(pair)
         return found
