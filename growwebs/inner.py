@@ -3,6 +3,7 @@
 from growwebs.errors import NoKind, NoMouth
 from growwebs.lengths import length_tables, stretch_tables
 from growwebs.pieces import MOUTH
+from growwebs.strands import part_tables
 
 
 class Inside:
@@ -12,6 +13,7 @@ class Inside:
         self.book = book
         self._stretches = stretch_tables(book.plan)
         self._lengths = length_tables(book.plan)
+        self._parts = part_tables(book.plan)
 
     def least(self, kind, one, other):
         """The least length of the ways between two mouth places, None if there is none."""
@@ -30,14 +32,7 @@ class Inside:
     def together(self, kind):
         """The mouth letters in groups that are joined by ways within."""
         self._check(kind, [])
-        groups = []
-        for at in range(self.book.plan.pieces[kind].mouth):
-            lengths = self._lengths[kind][at][:self.book.plan.pieces[kind].mouth]
-            joined = [MOUTH[to] for to in range(len(lengths)) if lengths[to] is not None]
-            group = "".join(joined)
-            if group not in groups:
-                groups.append(group)
-        return groups
+        return list(self._parts[kind])
 
     def _check(self, kind, letters):
         pieces = self.book.plan.pieces

@@ -7,14 +7,19 @@ from pathlib import Path
 
 from growwebs.books import Book, Place
 from growwebs.cuts import Bridges, Cuts, is_cut, joined
+from growwebs.depths import Depths
 from growwebs.distances import distance
-from growwebs.errors import BadBook, NoPiece, NoPlace, OtherBook, TooFar, WebError
+from growwebs.errors import BadBook, BadNumber, BadWord, NoKind, NoPart, NoPiece, NoPlace, OtherBook
+from growwebs.errors import TooFar, WebError
 from growwebs.far import far_distance, tale_between, tale_to
+from growwebs.growth import Growth, growth
 from growwebs.inner import Inside
+from growwebs.lanes import lanes
 from growwebs.pieces import Piece
 from growwebs.reasons import Reason, reason
 from growwebs.routes import Route, route, route_length
 from growwebs.rows import Loop, Row
+from growwebs.sights import Sight, Stand
 from growwebs.tales import Tale
 from growwebs.times import Times
 from growwebs.ways import Ways
@@ -59,6 +64,16 @@ INTERFACE = {
     "far": {
         "far_distance": ["book", "one", "other"], "tale_to": ["book", "place", "loop", "told"],
         "tale_between": ["book", "loop", "told", "tail", "other"]},
+    "depths": {
+        "Depths": ["book"], "Depths.exact": ["what", "number"], "Depths.pieces_of": ["kind", "number"],
+        "Depths.modulo": ["what", "number", "modulus"], "Depths.least_depth": ["what", "wish"], "Depths.spread": [],
+        "Depths.when": ["what", "modulus", "rest"]},
+    "lanes": {"lanes": ["book", "kind", "part"], "grows_on": ["book", "kind", "part"]},
+    "sights": {
+        "Sight": ["place"], "Sight.at": ["n"], "Sight.within": ["n"], "Sight.lettered": ["letter", "n"],
+        "Sight.nth": ["n", "k"], "Sight.rank": ["place"], "Sight.sphere": ["n", "*most=2000"],
+        "Sight.same_numbers": ["other"]},
+    "growth": {"growth": ["place"]},
 }
 
 
@@ -90,10 +105,11 @@ class ConventionsTest(unittest.TestCase):
     def test_equality_is_defined_for_what_is_equal_by_value(self):
         for owner in (Piece, Book, Place, Row, Times, Tale):
             self.assertIn("__eq__", vars(owner))
-        for owner in (Loop, Inside, Ways, Reason, Route, Cuts, Bridges):
+        for owner in (Loop, Inside, Ways, Reason, Route, Cuts, Bridges, Depths, Sight, Stand, Growth):
             self.assertNotIn("__eq__", vars(owner))
         self.assertIsInstance(vars(Book)["is_finite"], property)
         self.assertIsInstance(vars(Times)["endless"], property)
+        self.assertIsInstance(vars(Sight)["reach"], property)
 
     def test_objects_of_other_classes_are_unequal(self):
         values = any_values()
@@ -154,7 +170,10 @@ class ConventionsTest(unittest.TestCase):
                      lambda: vars(reason(one, other)), lambda: vars(route(one, other)),
                      lambda: Ways(one, other).way_at(3), lambda: far_distance(book, one, other),
                      lambda: tale_to(book, one, Loop((0,), (0,), ()), 0).lines,
-                     lambda: tale_between(book, Loop((0,), (0,), ()), 0, (0,), 1).early):
+                     lambda: tale_between(book, Loop((0,), (0,), ()), 0, (0,), 1).early,
+                     lambda: Sight(one).near, lambda: [vars(stand) for stand in Sight(one).stands],
+                     lambda: Sight(one).sphere(5), lambda: vars(growth(one)), lambda: lanes(book, "rung", "ab"),
+                     lambda: Depths(book).when("ties", 8, 3), lambda: Depths(book).when("ties", 8, 3).spans):
             self.assertEqual(call(), call())
 
     def test_lists_and_tuples_for_what_goes_between_places(self):
@@ -177,7 +196,13 @@ class ConventionsTest(unittest.TestCase):
                             (lambda: tale_between(book, Loop((0,), (0,), ()), None, (9,), None), NoPlace),
                             (lambda: joined(one, strange, [None]), OtherBook),
                             (lambda: far_distance(book, strange, one), OtherBook),
-                            (lambda: reason(one, strange), OtherBook)):
+                            (lambda: reason(one, strange), OtherBook),
+                            (lambda: lanes(book, "base ", None), NoKind), (lambda: lanes(book, "base", None), NoPart),
+                            (lambda: Depths(book).exact("tie", -1), BadWord),
+                            (lambda: Depths(book).modulo("ties", -1, None), BadNumber),
+                            (lambda: Depths(book).when("ties", 4096, 4096), BadNumber),
+                            (lambda: Sight(one).nth(1001, None), TooFar), (lambda: Sight(one).nth(None, None), BadNumber),
+                            (lambda: Sight(one).lettered("", 1001), BadWord)):
             with self.assertRaises(error):
                 call()
 

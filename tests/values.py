@@ -1,10 +1,12 @@
 """Values of any kind, to be handed in where something else is expected."""
 
+from growwebs.depths import Depths
 from growwebs.errors import WebError
 from growwebs.pieces import Piece
 from growwebs.reasons import Reason
 from growwebs.routes import Route
 from growwebs.rows import Loop, Row
+from growwebs.sights import Sight
 from growwebs.tales import Tale
 from growwebs.times import Times
 from tests.webs import ladder
@@ -28,7 +30,7 @@ def any_values():
         nested(20, lambda value: {"k": value}),
         book, book.place((), 0), Piece(0, "."), Row([((0,), 3)]), Loop((), (0,), ()),
         Times(2, [(0, 0, None)]), Tale([1], [[]] * 6), WebError(), [book], (book.place((), 1),),
-        Reason(0, {}, {}), Route([], {}), [Route([], {})],
+        Reason(0, {}, {}), Route([], {}), [Route([], {})], Depths(book), Sight(book.place((), 0)),
     ]
 
 
