@@ -3,7 +3,7 @@
 from growwebs.checks import is_within
 from growwebs.errors import BadNumber, BadWord, NoKind, TooFar, TooMany
 from growwebs.leading import all_rows, all_turns, longest_chains, rows_from
-from growwebs.masks import joined_parts, plain_part
+from growwebs.masks import joined_parts, mask_of, plain_part
 from growwebs.times import Parts, Times
 
 GREATEST_DEPTH = 2000
@@ -176,15 +176,6 @@ class Depths:
             seen[state] = len(holds)
             holds.append(total == rest)
             level = [many % modulus for many in self._below(level)]
-
-
-def mask_of(holds):
-    """The mask with a bit for each index at which a list has True."""
-    mask = 0
-    for index, hold in enumerate(holds):
-        if hold:
-            mask = mask | (1 << index)
-    return mask
 
 
 def times_of_round(holds, begun):

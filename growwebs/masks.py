@@ -21,6 +21,15 @@ def count_bits(mask):
     return f"{mask:b}".count("1")
 
 
+def mask_of(holds):
+    """The mask with a bit for each index at which a list has True."""
+    mask = 0
+    for index, hold in enumerate(holds):
+        if hold:
+            mask = mask | (1 << index)
+    return mask
+
+
 def turned_mask(period, mask, by):
     """The mask that begins with the bit that stands at by."""
     by = by % period

@@ -3,6 +3,9 @@
 from growwebs.lengths import best_stretch, joined_stretch, pass_tables
 from growwebs.pieces import hanging_at, spot_of
 
+# Rows are long, so not all that has been looked at is kept.
+MOST_KNOWN = 5000
+
 
 class Scout:
     """Looks at pieces, further and further down; found has the stretches on the patch.
@@ -50,6 +53,8 @@ def look_below(scout, row, number):
 
 def looked_at(scout, row):
     """The tuple (kind, names, stretches) of the piece at a row of the web."""
+    if len(scout.known) > MOST_KNOWN:
+        scout.known = {(): scout.known[()]}
     depth = len(row)
     while row[:depth] not in scout.known:
         depth = depth - 1

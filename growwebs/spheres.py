@@ -15,7 +15,7 @@ class Sphere:
         self.stands = stands
         self.tally = tally
         self.distance = distance
-        self.behind = counts_behind(self)
+        self.onward = counts_behind(self)
 
 
 class Rim:
@@ -50,7 +50,7 @@ def count_node(sphere, node):
     """How many places of the sphere are in a piece and below it."""
     row, pairs = node
     if pairs is None:
-        return sphere.behind[len(row)]
+        return sphere.onward[len(row)]
     return count_pairs(sphere, pairs)
 
 

@@ -4,9 +4,9 @@
 class Tally:
     """How many of the places that are counted are at each distance.
 
-    near has a dict from distances to numbers of places, own one for each stand from times to
-    numbers, entries one from pairs (shift, stand) to how many entries have them. For each time
-    below has, for each stand, how many places it has then, and spheres the number of the whole.
+    near is a dict from distances to numbers of places, own has one for each stand from times to
+    numbers, entries is one from pairs (shift, stand) to how many entries have them. timed has for
+    each time a list of how many places each stand has then, spheres how many all have.
     """
 
     def __init__(self, near, entries, own, arrows):
@@ -15,7 +15,7 @@ class Tally:
         self.own = own
         self.arrows = arrows
         self.order = settled_order(arrows)
-        self.below = []
+        self.timed = []
         self.spheres = []
 
 
@@ -35,25 +35,25 @@ def settled_order(arrows):
 
 def add_time(tally):
     """Count for one time more."""
-    time = len(tally.below)
+    time = len(tally.timed)
     counts = [0 for _ in tally.arrows]
-    tally.below.append(counts)
+    tally.timed.append(counts)
     for stand in tally.order:
         total = tally.own[stand].get(time, 0)
         for _, shift, number in tally.arrows[stand]:
             if shift <= time:
-                total = total + tally.below[time - shift][number]
+                total = total + tally.timed[time - shift][number]
         counts[stand] = total
     whole = tally.near.get(time, 0)
     for shift, stand in tally.entries:
         if shift <= time:
-            whole = whole + tally.entries[(shift, stand)] * tally.below[time - shift][stand]
+            whole = whole + tally.entries[(shift, stand)] * tally.timed[time - shift][stand]
     tally.spheres.append(whole)
 
 
 def counted(tally, time):
     """The tally, counted at least to a time."""
-    while len(tally.below) <= time:
+    while len(tally.timed) <= time:
         add_time(tally)
     return tally
 
@@ -62,7 +62,7 @@ def stand_count(tally, stand, time):
     """How many places a stand has at a time, which may be less than 0."""
     if time < 0:
         return 0
-    return counted(tally, time).below[time][stand]
+    return counted(tally, time).timed[time][stand]
 
 
 def count_at(tally, time):

@@ -5,7 +5,7 @@ integer with this rest from len(early) on.
 """
 
 from growwebs.curves import drawn_out, least_of_curves, spans_where, sum_of_curves, value_of
-from growwebs.masks import BOTH, NONE, ONE, OTHER, combined, last_member, plain_part
+from growwebs.masks import BOTH, NONE, ONE, OTHER, combined, last_member, mask_of, plain_part
 from growwebs.nones import is_less, lesser_of, sum_of
 from growwebs.spans import parts_of
 
@@ -88,11 +88,7 @@ def early_parts(holds):
     """The parts of the set of the indexes at which a list has True."""
     if not holds:
         return ((0, 1, 0),)
-    mask = 0
-    for index, hold in enumerate(holds):
-        if hold:
-            mask = mask | (1 << index)
-    return (plain_part(0, len(holds), len(holds), mask), (len(holds), 1, 0))
+    return (plain_part(0, len(holds), len(holds), mask_of(holds)), (len(holds), 1, 0))
 
 
 def where(told, other, equal):
