@@ -156,6 +156,27 @@ class CutsTest(unittest.TestCase):
             self.assertTrue(turned == (pair[1], pair[0]))
             self.assertTrue(is_cut(place, one, other))
 
+    def test_parts_within_kinds_all_along_two_rows(self):
+        # On each of the pieces on two rows of 60 two parts stand, four of the next kind within each.
+        pieces = {"s": Piece(0, ".", [], [("t", (0,)), ("t", (0,))]),
+                  "t": Piece(1, "..", [], [("t", (1,)), ("b", ("a", 0)), ("b", (0, 1))])}
+        for kind, below in zip("bcd", "cde"):
+            pieces[kind] = Piece(2, "...", [], [(below, ("a", 0)), (below, (0, 1)), (below, (1, 2)), (below, (2, "b"))])
+        pieces["e"] = Piece(2, "......", [("a", 0, 1)] + [(at, at + 1, 1) for at in range(5)] + [(5, "b", 1)])
+        book = Book("s", pieces)
+        one, other = book.place((0,) * 60, 1), book.place((1,) + (0,) * 59, 1)
+        cuts, bridges = Cuts(one, other), Bridges(one, other)
+        many = 120 * 2 * 4 ** 3 * 7
+        self.assertEqual((cuts.total(), bridges.total()), (many - 1, many))
+        self.assertTrue(cuts.cut_at(many // 2 - 1) == book.place((), 0))
+        rng = random.Random(4)
+        for number in [0, many - 2] + [rng.randrange(many - 1) for _ in range(25)]:
+            place, pair = cuts.cut_at(number), bridges.bridge_at(number)
+            self.assertTrue(pair[1] == place)
+            self.assertEqual((cuts.number_of(place), bridges.number_of(pair)), (number, number))
+            with self.assertRaises(NotOnAll):
+                bridges.number_of(pair[::-1])
+
     def test_totals_beyond_what_can_be_listed(self):
         # Each kind has mouths turned about further down: three triples for each kind.
         pieces = {"s": Piece(0, "...", [], [("k", (0, 1, 2))])}

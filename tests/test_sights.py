@@ -181,8 +181,15 @@ class SightsTest(unittest.TestCase):
                     row, stand = row + (bud,), sight.stands[number]
                     for _ in range(4):
                         for own, time in stand.own:
-                            self.assertEqual(distance(place, book.place(row, own)), shift + time)
+                            other = book.place(row, own)
+                            self.assertEqual(distance(place, other), shift + time)
+                            self.assertEqual(far_distance(book, other, place), shift + time)
                             looked += 1
+                        if stand.own:
+                            length = shift + stand.own[-1][1]
+                            self.assertEqual(Ways(place, other).length, length)
+                            self.assertEqual(reason(place, other).length, length)
+                            self.assertEqual(route_length(place, other, route(place, other)), length)
                         if not stand.arrows:
                             break
                         bud, more, number = rng.choice(stand.arrows)

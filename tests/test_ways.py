@@ -39,7 +39,7 @@ class WaysTest(unittest.TestCase):
         self.assertEqual(ways.length, distance(begin, end))
         self.assertEqual(ways.total(), len(want))
         self.assertEqual(ways.fewest_ties(), min(len(way) for way in want) - 1)
-        for number in sorted({0, len(want) - 1} | {rng.randrange(len(want)) for _ in range(6)}):
+        for number in range(len(want)):
             self.assertEqual(names(ways.way_at(number)), want[number])
             self.assertEqual(ways.number_of(places(book, want[number])), number)
             self.assertEqual(ways.number_of(tuple(places(book, want[number]))), number)
