@@ -9,17 +9,34 @@ def has_more(plan, depth, most):
     level = {plan.seed: 1}
     total = 0
     while level:
-        below = {}
-        for kind in level:
-            piece = plan.pieces[kind]
-            total = total + level[kind] * len(piece.letters)
-            for bud, _ in piece.buds:
-                below[bud] = below.get(bud, 0) + level[kind]
+        total = total + sum([level[kind] * len(plan.pieces[kind].letters) for kind in level])
         if total > most or depth == 0:
             break
-        level = below
+        level = counts_below(plan, level)
         depth = depth - 1
     return total > most
+
+
+def counts_below(plan, level):
+    """How many pieces of each kind there are one deeper than some."""
+    below = {}
+    for kind in level:
+        for bud, _ in plan.pieces[kind].buds:
+            below[bud] = below.get(bud, 0) + level[kind]
+    return below
+
+
+def piece_counts(plan):
+    """How many pieces of each kind the web has, None for endlessly many."""
+    level = {plan.seed: 1}
+    counts = {}
+    many = len(plan.pieces)
+    # Of a kind that comes up as deep as there are kinds there is no end, and it does so soon.
+    for depth in range(2 * many):
+        for kind in level:
+            counts[kind] = None if depth >= many else counts.get(kind, 0) + level[kind]
+        level = counts_below(plan, level)
+    return counts
 
 
 def spots_of(piece, mouth, first):
