@@ -1,0 +1,72 @@
+"""Closed tables: what has been settled for each key that is met, so that all of a web is settled."""
+
+from growwebs.errors import BadTable
+from growwebs.rows import plain_stretches
+
+
+def met_values(seed, table, settled):
+    """The pair of dicts from met keys, in their order, to values, and to the tuples of the buds' keys.
+
+    The function settled tells for a key and its value the pair of both, None for a value that is not
+    right. BadTable is raised for the first met key that has no right value.
+    """
+    start = (seed, "")
+    if not isinstance(table, dict):
+        raise BadTable(start)
+    values = {}
+    belows = {}
+    met = {start: True}
+    waiting = [start]
+    at = 0
+    while at < len(waiting):
+        key = waiting[at]
+        told = settled(key, table[key]) if key in table else None
+        if told is None:
+            raise BadTable(key)
+        values[key], belows[key] = told
+        for below in belows[key]:
+            if below not in met:
+                met[below] = True
+                waiting.append(below)
+        at += 1
+    return values, belows
+
+
+def key_at(belows, start, row):
+    """The key of the piece at a row of any length."""
+    key = start
+    for word, times in plain_stretches(row):
+        seen = {}
+        done = 0
+        while done < times:
+            if key in seen:
+                # The keys go round from here on, so whole rounds can be left out.
+                around = done - seen[key]
+                done = done + (times - done) // around * around
+                if done == times:
+                    break
+            seen[key] = done
+            for number in word:
+                key = belows[key][number]
+            done = done + 1
+    return key
+
+
+def keys_beside(belows, others, start):
+    """The triples (row, key, other key) of all pairs of keys that two tables have at one row.
+
+    Each pair is told with the first row at which it is met, shorter rows first, then ascending.
+    """
+    rows = {(start, start): ()}
+    waiting = [(start, start)]
+    at = 0
+    while at < len(waiting):
+        key, other = waiting[at]
+        row = rows[waiting[at]]
+        for number in range(len(belows[key])):
+            pair = (belows[key][number], others[other][number])
+            if pair not in rows:
+                rows[pair] = row + (number,)
+                waiting.append(pair)
+        at += 1
+    return [(rows[pair], pair[0], pair[1]) for pair in waiting]
