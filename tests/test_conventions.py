@@ -6,26 +6,36 @@ import unittest
 from pathlib import Path
 
 from growwebs.books import Book, Place
+from growwebs.covers import Lonely, lonely, states
 from growwebs.cuts import Bridges, Cuts, is_cut, joined
 from growwebs.depths import Depths
 from growwebs.distances import distance
-from growwebs.errors import BadBook, BadNumber, BadWord, NoKind, NoPart, NoPiece, NoPlace, OtherBook
-from growwebs.errors import TooFar, WebError
+from growwebs.ends import Ends, ends, ends_along
+from growwebs.errors import BadBook, BadNumber, BadRule, BadWord, NoBud, NoKind, NoPart, NoPiece, NoPlace, OtherBook
+from growwebs.errors import TooFar, TooLong, WebError
 from growwebs.far import far_distance, tale_between, tale_to
+from growwebs.folds import Unfolding
+from growwebs.gardens import Garden
 from growwebs.growth import Growth, growth
 from growwebs.inner import Inside
 from growwebs.lanes import lanes
+from growwebs.leads import Lead, Leads
+from growwebs.marks import Marks
+from growwebs.pairings import Pairing, Pairings
 from growwebs.pieces import Piece
 from growwebs.reasons import Reason, reason
 from growwebs.routes import Route, route, route_length
 from growwebs.rows import Loop, Row
+from growwebs.rules import Rule
+from growwebs.sames import least_book, parting
 from growwebs.sights import Sight, Stand
 from growwebs.tales import Tale
 from growwebs.times import Times
 from growwebs.ways import Ways
 from tests.values import any_values
-from tests.webs import ladder, twigs
+from tests.webs import ladder, tent, twigs
 
+THREE = Rule("abc", ["ab", "bc", "ca"])
 INTERFACE = {
     "pieces": {"Piece": ["mouth", "letters", "ties=()", "buds=()"]},
     "books": {
@@ -74,6 +84,31 @@ INTERFACE = {
         "Sight.nth": ["n", "k"], "Sight.rank": ["place"], "Sight.sphere": ["n", "*most=2000"],
         "Sight.same_numbers": ["other"]},
     "growth": {"growth": ["place"]},
+    "ends": {"ends": ["place"], "ends_along": ["place", "head", "turn"]},
+    "marks": {
+        "Marks": ["book"], "Marks.__getitem__": ["place"], "Marks.__setitem__": ["place", "letter"],
+        "Marks.__contains__": ["place"], "Marks.__len__": [], "Marks.listed": [], "Marks.undo": [], "Marks.undoable": [],
+        "Marks.nearest": ["place", "letter"], "Marks.total": ["letter"]},
+    "covers": {
+        "states": ["book", "letter", "radius"], "every": ["book", "letter", "radius"], "lonely": ["book", "letter"]},
+    "rules": {"Rule": ["colours", "beside", "letters=None"]},
+    "leads": {
+        "Leads": ["book", "rule"], "Leads.fails_at": [], "Leads.may": ["kind"], "Leads.lowest": [], "Leads.bar": [],
+        "Leads.how_many": ["modulo"], "Leads.of_depth": ["depth", "modulo"], "Leads.colours_of": ["place"],
+        "Leads.pairs_of": ["one", "other"], "Lead": ["book", "rule", "table"], "Lead.colour": ["place"],
+        "Lead.coloured": ["colour", "depth"], "Lead.first_apart": ["other"], "fewest_colours": ["book"]},
+    "pairings": {
+        "Pairings": ["book"], "Pairings.may": ["kind"], "Pairings.fails_at": [], "Pairings.bar": [],
+        "Pairings.lowest": [], "Pairings.partners": ["place"], "Pairing": ["book", "table"], "Pairing.partner": ["place"],
+        "Pairing.first_apart": ["other"]},
+    "sames": {"same": ["one", "other"], "parting": ["one", "other"], "least_book": ["book"]},
+    "folds": {"Unfolding": ["book", "kind", "number"], "Unfolding.led": ["place"], "Unfolding.back": ["place"]},
+    "gardens": {
+        "Garden": ["book"], "Garden.__len__": [], "Garden.set_tie": ["kind", "one", "other", "length"],
+        "Garden.cut_tie": ["kind", "one", "other"], "Garden.set_bud": ["kind", "at", "bud"], "Garden.drop_bud": ["kind"],
+        "Garden.set_letter": ["kind", "at", "letter"], "Garden.drop_kind": ["kind"], "Garden.set_kind": ["kind", "piece"],
+        "Garden.keep": ["guard"], "Garden.free": ["guard"], "Garden.undo": [], "Garden.trial": ["action"],
+        "Garden.attempt": ["action"]},
 }
 
 
@@ -103,10 +138,14 @@ class ConventionsTest(unittest.TestCase):
                 self.assertEqual(told_parameters(thing), parameters, entry)
 
     def test_equality_is_defined_for_what_is_equal_by_value(self):
-        for owner in (Piece, Book, Place, Row, Times, Tale):
+        for owner in (Piece, Book, Place, Row, Times, Tale, Marks, Rule, Lead, Pairing):
             self.assertIn("__eq__", vars(owner))
-        for owner in (Loop, Inside, Ways, Reason, Route, Cuts, Bridges, Depths, Sight, Stand, Growth):
+        for owner in (Loop, Inside, Ways, Reason, Route, Cuts, Bridges, Depths, Sight, Stand, Growth, Ends, Lonely,
+                      Leads, Pairings, Unfolding, Garden):
             self.assertNotIn("__eq__", vars(owner))
+        for owner in (Leads, Pairings):
+            self.assertIsInstance(vars(owner)["exists"], property)
+        self.assertIsInstance(vars(Leads)["is_endless"], property)
         self.assertIsInstance(vars(Book)["is_finite"], property)
         self.assertIsInstance(vars(Times)["endless"], property)
         self.assertIsInstance(vars(Sight)["reach"], property)
@@ -121,7 +160,8 @@ class ConventionsTest(unittest.TestCase):
                     self.assertIs(one != other, not same)
 
     def test_objects_are_no_keys(self):
-        for value in (ladder(), ladder().place((), 0), Piece(0, "."), Row(), Times(1, []), Tale([], [[]] * 6)):
+        for value in (ladder(), ladder().place((), 0), Piece(0, "."), Row(), Times(1, []), Tale([], [[]] * 6),
+                      Marks(ladder()), Rule("a", []), Pairings(ladder()).lowest()):
             with self.assertRaises(TypeError):
                 hash(value)
 
@@ -173,7 +213,12 @@ class ConventionsTest(unittest.TestCase):
                      lambda: tale_between(book, Loop((0,), (0,), ()), 0, (0,), 1).early,
                      lambda: Sight(one).near, lambda: [vars(stand) for stand in Sight(one).stands],
                      lambda: Sight(one).sphere(5), lambda: vars(growth(one)), lambda: lanes(book, "rung", "ab"),
-                     lambda: Depths(book).when("ties", 8, 3), lambda: Depths(book).when("ties", 8, 3).spans):
+                     lambda: Depths(book).when("ties", 8, 3), lambda: Depths(book).when("ties", 8, 3).spans,
+                     lambda: vars(ends(one)), lambda: Marks(book).nearest(one, "."), lambda: states(book, ".", 3),
+                     lambda: vars(lonely(book, ".")), lambda: Marks(book), lambda: Leads(book, THREE).lowest(),
+                     lambda: Leads(book, THREE).lowest().table, lambda: Leads(tent(), Rule("ab", ["ab"])).bar(),
+                     lambda: Pairings(book).lowest().table, lambda: Pairings(book).partners(one),
+                     lambda: least_book(book), lambda: parting(book, tent()), lambda: Unfolding(book, "rung", 0).result):
             self.assertEqual(call(), call())
 
     def test_lists_and_tuples_for_what_goes_between_places(self):
@@ -189,7 +234,7 @@ class ConventionsTest(unittest.TestCase):
     def test_two_wrong_arguments_at_once(self):
         book = ladder()
         one, strange = book.place((), 0), twigs().place((), 0)
-        long = book.place((0,) * 300, 0)
+        long, far = book.place((0,) * 300, 0), book.place((0,) * 2001, 0)
         for call, error in ((lambda: tale_to(book, strange, Loop((9,), (0,), ()), None), OtherBook),
                             (lambda: tale_to(book, long, Loop((9,), (0,), ()), None), TooFar),
                             (lambda: tale_between(book, Loop((9,), (0,), ()), None, (9,), None), NoPiece),
@@ -202,7 +247,20 @@ class ConventionsTest(unittest.TestCase):
                             (lambda: Depths(book).modulo("ties", -1, None), BadNumber),
                             (lambda: Depths(book).when("ties", 4096, 4096), BadNumber),
                             (lambda: Sight(one).nth(1001, None), TooFar), (lambda: Sight(one).nth(None, None), BadNumber),
-                            (lambda: Sight(one).lettered("", 1001), BadWord)):
+                            (lambda: Sight(one).lettered("", 1001), BadWord),
+                            (lambda: ends_along(one, None, None), NoPiece), (lambda: ends_along(one, (9,), ()), BadWord),
+                            (lambda: Marks(book).nearest(strange, None), OtherBook),
+                            (lambda: states(book, "ab", -1), BadWord), (lambda: states(book, "a", -1), BadNumber),
+                            (lambda: Rule("aa", None, 5), BadRule), (lambda: Leads(book, THREE).of_depth(-1, 0), BadNumber),
+                            (lambda: Leads(book, THREE).of_depth(999, 0), BadNumber),
+                            (lambda: Leads(book, THREE).how_many(0), BadNumber),
+                            (lambda: Leads(book, THREE).lowest().coloured("d", -1), BadRule),
+                            (lambda: Leads(book, THREE).lowest().coloured("a", -1), BadNumber),
+                            (lambda: Leads(book, THREE).pairs_of(far, strange), TooLong),
+                            (lambda: Leads(book, THREE).pairs_of(strange, far), OtherBook),
+                            (lambda: Unfolding(book, "none", 9), NoKind), (lambda: Unfolding(book, "rung", 9), NoBud),
+                            (lambda: Garden(book).set_bud("none", 9, None), NoKind),
+                            (lambda: Garden(book).set_letter("rung", 9, None), NoPlace)):
             with self.assertRaises(error):
                 call()
 

@@ -184,7 +184,7 @@ class MarksTest(unittest.TestCase):
         self.assertNotEqual(one, other)
         self.assertNotEqual(Marks(ladder()), Marks(rails()))
         for value in any_values():
-            self.assertFalse(Marks(ladder()) == value)
+            self.assertIs(Marks(ladder()) == value, isinstance(value, Marks))
 
     def test_wrong_letters_and_books(self):
         book = ladder()

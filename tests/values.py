@@ -1,11 +1,18 @@
 """Values of any kind, to be handed in where something else is expected."""
 
 from growwebs.depths import Depths
+from growwebs.ends import ends
 from growwebs.errors import WebError
+from growwebs.folds import Unfolding
+from growwebs.gardens import Garden
+from growwebs.leads import Leads
+from growwebs.marks import Marks
+from growwebs.pairings import Pairings
 from growwebs.pieces import Piece
 from growwebs.reasons import Reason
 from growwebs.routes import Route
 from growwebs.rows import Loop, Row
+from growwebs.rules import Rule
 from growwebs.sights import Sight
 from growwebs.tales import Tale
 from growwebs.times import Times
@@ -31,6 +38,8 @@ def any_values():
         book, book.place((), 0), Piece(0, "."), Row([((0,), 3)]), Loop((), (0,), ()),
         Times(2, [(0, 0, None)]), Tale([1], [[]] * 6), WebError(), [book], (book.place((), 1),),
         Reason(0, {}, {}), Route([], {}), [Route([], {})], Depths(book), Sight(book.place((), 0)),
+        Marks(book), Rule("ab", ["ab"]), Leads(book, Rule("ab", ["ab"])).lowest(), Pairings(book).lowest(),
+        {"a": Garden(book)}, (Pairings(book),), ends(book.place((), 0)), Unfolding(book, "rung", 0),
     ]
 
 
