@@ -6,7 +6,7 @@ from growwebs.errors import BadWord, NoPiece, TooMany
 from growwebs.growth import growth
 from growwebs.leading import all_rows, all_turns
 from growwebs.rows import first_of_row, kept_row
-from growwebs.strands import entries_at, joined_parts_of, lanes_from, strand_lines
+from growwebs.strands import entries_at, joined_parts_of, lane_tables, strand_lines
 from growwebs.walks import walk
 
 MOST_ENTRIES = 100
@@ -94,20 +94,14 @@ def ends(place):
 
 def parts_behind(plan, kind, parts, word):
     """The pair (kind, parts) to which lanes lead from some parts of a kind by a word."""
+    lanes = lane_tables(plan)
     for number in word:
         found = []
         for part in parts:
-            found.extend([below for bud, _, below in lanes_from(plan, kind, part) if bud == number])
+            found.extend([below for bud, _, below in lanes[(kind, part)] if bud == number])
         kind = plan.pieces[kind].buds[number][0]
         parts = sorted(set(found))
     return kind, parts
-
-
-def parts_at(place, row):
-    """The pair (kind, parts that belong to the region of a place) of the piece at a row."""
-    view = view_from(place)
-    kind = kinds_on(view.plan, row)[-1]
-    return kind, joined_parts_of(view.plan, kind, lengths_at(view, row))
 
 
 def goes_on_by(plan, kind, part, turn):
@@ -137,9 +131,12 @@ def ends_along(place, head, turn):
     check_turns(plan, head, turn)
     turn = tuple(turn)
     row = tuple(head)
-    while len(row) <= len(place.row):
+    view = view_from(place)
+    # Behind the place's own row nothing new comes up: each part has one further up to which it belongs.
+    while len(row) <= len(view.row):
         row = row + turn
-    kind, parts = parts_at(place, row)
+    kind = kinds_on(plan, row)[-1]
+    parts = joined_parts_of(plan, kind, lengths_at(view, row))
     for _ in range(ENOUGH_TURNS):
         kind, parts = parts_behind(plan, kind, parts, turn)
     return len([part for part in parts if goes_on_by(plan, kind, part, turn)])

@@ -125,7 +125,7 @@ class Lead:
         self.rule = rule
         told = met_values(book.seed, table, lambda key, value: settled_colours(book.plan, rule, key, value))
         self.table = told[0]
-        self._below = told[1]
+        self._belows = told[1]
 
     def __eq__(self, other):
         if not isinstance(other, Lead):
@@ -135,7 +135,7 @@ class Lead:
     def colour(self, place):
         """The colour of a place."""
         check_book(self.book, place)
-        key = key_at(self._below, (self.book.seed, ""), place.row)
+        key = key_at(self._belows, (self.book.seed, ""), place.row)
         return self.table[key][place.number]
 
     def coloured(self, colour, depth):
@@ -148,7 +148,7 @@ class Lead:
             raise TooFar(depth)
         level = {(self.book.seed, ""): 1}
         for _ in range(depth):
-            level = counts_one_deeper(self._below, level)
+            level = counts_one_deeper(self._belows, level)
         return sum([level[key] * self.table[key].count(colour) for key in level])
 
     def first_apart(self, other):
@@ -160,7 +160,7 @@ class Lead:
 
     def _apart(self, other):
         """The name of the first place with unlike colours in two leads of equal books, or None."""
-        for row, key, beside in keys_beside(self._below, other._below, (self.book.seed, "")):
+        for row, key, beside in keys_beside(self._belows, other._belows, (self.book.seed, "")):
             for number, colour in enumerate(self.table[key]):
                 if colour != other.table[beside][number]:
                     return row, number

@@ -77,7 +77,7 @@ def keys_of(piece, insides):
     return tuple([(kind, inside) for (kind, _), inside in zip(piece.buds, insides)])
 
 
-def are_ties(piece, value):
+def are_tie_numbers(piece, value):
     """Whether any value is a list of numbers of ties of a piece, ascending."""
     if not is_list(value):
         return False
@@ -101,7 +101,7 @@ def are_insides(piece, value):
 
 def settled_way(piece, letters, value):
     """The way that any value is, in tuples, if it is right for letters of a piece's mouth, else None."""
-    if not is_pair(value) or not are_ties(piece, value[0]) or not are_insides(piece, value[1]):
+    if not is_pair(value) or not are_tie_numbers(piece, value[0]) or not are_insides(piece, value[1]):
         return None
     met = [told for number in value[0] for told in piece.ties[number][:2]]
     for inside, (_, row) in zip(value[1], piece.buds):

@@ -87,7 +87,7 @@ class Pairing:
         self.book = book
         told = met_values(book.seed, table, lambda key, value: settled_pairing(book.plan, key, value))
         self.table = told[0]
-        self._below = told[1]
+        self._belows = told[1]
 
     def __eq__(self, other):
         if not isinstance(other, Pairing):
@@ -99,7 +99,7 @@ class Pairing:
         check_book(self.book, place)
         row = place.row
         told = place.number
-        key = key_at(self._below, (self.book.seed, ""), row)
+        key = key_at(self._belows, (self.book.seed, ""), row)
         while True:
             piece = self.book.plan.pieces[key[0]]
             at, letter = cover_of(piece, self.table[key], told)
@@ -107,7 +107,7 @@ class Pairing:
                 one, other, _ = piece.ties[at]
                 return self.book.place(row, other if told == one else one)
             row = row + (at,)
-            key = self._below[key][at]
+            key = self._belows[key][at]
             told = letter
 
     def first_apart(self, other):
@@ -120,7 +120,7 @@ class Pairing:
     def _apart(self, other):
         """The name of the first place with unlike partners in two pairings of equal books, or None."""
         pieces = self.book.plan.pieces
-        for row, key, beside in keys_beside(self._below, other._below, (self.book.seed, "")):
+        for row, key, beside in keys_beside(self._belows, other._belows, (self.book.seed, "")):
             for number in range(len(pieces[key[0]].letters)):
                 if not self._pairs_alike(other, key, beside, number):
                     return row, number
@@ -137,8 +137,8 @@ class Pairing:
             at, told = cover
             if told is None:
                 return True
-            key = self._below[key][at]
-            beside = other._below[beside][at]
+            key = self._belows[key][at]
+            beside = other._belows[beside][at]
 
 
 def settled_pairing(plan, key, value):

@@ -69,12 +69,24 @@ def row_of_bud(trimmed, below, row, letters):
     return tuple(found)
 
 
-def hanging_place(piece, letters, rows):
-    """The place for buds that need none: a new one, if there is one, in as few other rows as possible."""
+def hung_rows(piece, letters, rows):
+    """The rows of the buds, where those that need no place hang at one that few other buds hang at.
+
+    That is a new one, if there is one: so no place is handed on for ever.
+    """
     places = list(range(len(piece.letters)))
     if not places:
         places = list(MOUTH[:max(1, len(letters))])
-    return min(places, key=lambda told: (len([row for row in rows if told in row]), told))
+    hung = list(rows)
+    for number, row in enumerate(rows):
+        if not row:
+            hung[number] = (min(places, key=lambda told: (count_with(hung, told), told)),)
+    return hung
+
+
+def count_with(rows, told):
+    """How many rows have a place."""
+    return len([row for row in rows if told in row])
 
 
 def least_piece(trimmed, kind, names):
@@ -84,11 +96,10 @@ def least_piece(trimmed, kind, names):
     kept = living_buds(trimmed, kind)
     rows = [row_of_bud(trimmed, below, row, letters) if below in trimmed.living else ()
             for below, row in kept]
-    place = hanging_place(piece, letters, rows)
-    buds = [(names[first_of(trimmed, below)], row if row else (place,)) for (below, _), row in zip(kept, rows)]
+    kinds = [names[first_of(trimmed, below)] for below, _ in kept]
     ties = [(one, told_in(letters, other), length) for one, other, length in piece.ties]
     mouth = 0 if kind == trimmed.seed else max(1, len(letters))
-    return Piece(mouth, piece.letters, ties, buds)
+    return Piece(mouth, piece.letters, ties, list(zip(kinds, hung_rows(piece, letters, rows))))
 
 
 def living_buds(trimmed, kind):

@@ -10,7 +10,7 @@ from growwebs.inner import Inside
 from growwebs.lanes import lanes
 from growwebs.pieces import Piece
 from tests.values import any_values
-from tests.webs import PlainWeb, hander, ladder, nest, rails, random_books, tent, twigs
+from tests.webs import PlainWeb, bare_books, hander, ladder, nest, rails, random_books, tent, twigs
 
 LETTERS = "abcdefghijklmnopqrstuvwxyz."
 
@@ -85,7 +85,7 @@ class StatesTest(unittest.TestCase):
 
     def test_against_a_plain_reckoning(self):
         checked = 0
-        for book in [ladder(), cared(), rails(), twigs(), tent(), nest(), hander()] + random_books(54, 90):
+        for book in [ladder(), cared(), rails(), twigs(), tent(), nest(), hander()] + random_books(54, 60) + bare_books(54, 40):
             far = 8
             while far > 5 and len(PlainWeb(book.pieces, book.seed, far).letters) > 300:
                 far -= 1
@@ -224,7 +224,7 @@ class LonelyTest(unittest.TestCase):
 
     def test_random_webs(self):
         seen = {}
-        for book in random_books(55, 400):
+        for book in random_books(55, 400) + bare_books(55, 300):
             for letter in "ab.":
                 verdict = self.check(book, letter)
                 seen[verdict] = seen.get(verdict, 0) + 1

@@ -19,7 +19,7 @@ from growwebs.sights import Sight
 from growwebs.ways import Ways
 from tests.plain_leads import random_rules
 from tests.values import any_values
-from tests.webs import hander, ladder, names, nest, rails, random_books, strip, tent, twigs
+from tests.webs import bare_books, hander, ladder, names, nest, rails, random_books, strip, tent, twigs
 
 
 def unfoldings(books):
@@ -34,7 +34,7 @@ def unfoldings(books):
 
 
 def some(seed, many):
-    return list(unfoldings([ladder(), rails(), strip(), hander(), twigs()] + random_books(seed, many)))
+    return list(unfoldings([ladder(), rails(), strip(), hander(), twigs()] + random_books(seed, many) + bare_books(seed, many // 2)))
 
 
 def near(book, depth=2, most=12):

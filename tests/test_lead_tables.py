@@ -11,7 +11,7 @@ from growwebs.rows import Row
 from growwebs.rules import Rule
 from tests.plain_leads import fits, random_rules
 from tests.values import any_values
-from tests.webs import PlainWeb, hander, ladder, rails, random_books, tent, twigs
+from tests.webs import PlainWeb, bare_books, hander, ladder, rails, random_books, tent, twigs
 
 TWO = Rule("ab", ["ab"])
 THREE = Rule("abc", ["ab", "bc", "ca"])
@@ -85,7 +85,7 @@ def plain_colours(book, table, depth):
 def some_leads(seed, many):
     """Triples (book, rule, table) of random closed tables."""
     rng = random.Random(seed)
-    for book, rule in zip(random_books(seed, many, (1,)), random_rules(seed, many)):
+    for book, rule in zip(random_books(seed, many, (1,)) + bare_books(seed, many), random_rules(seed, 2 * many)):
         table = random_table(rng, book, rule)
         if table is not None:
             yield book, rule, table

@@ -10,7 +10,7 @@ from growwebs.rows import Row
 from growwebs.rules import Rule
 from tests.plain_leads import can_be_coloured, colourings, random_rules
 from tests.values import any_values
-from tests.webs import PlainWeb, hander, ladder, nest, rails, random_books, strip, tent, twigs
+from tests.webs import PlainWeb, bare_books, hander, ladder, nest, rails, random_books, strip, tent, twigs
 
 TWO = Rule("ab", ["ab"])
 THREE = Rule("abc", ["ab", "bc", "ca"])
@@ -44,7 +44,8 @@ def sub_web(web, rows):
 
 def small_webs(seed, many, most=60, depth=4):
     """Random books and rules, with the greatest depth to which the web is small."""
-    for book, rule in zip(random_books(seed, many, (1,)), random_rules(seed, many)):
+    books = random_books(seed, many - many // 3, (1,)) + bare_books(seed, many // 3, (1,))
+    for book, rule in zip(books, random_rules(seed, many)):
         far = depth
         while far > 0 and len(PlainWeb(book.pieces, book.seed, far).letters) > most:
             far -= 1

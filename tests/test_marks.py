@@ -9,7 +9,7 @@ from growwebs.marks import Marks
 from growwebs.pieces import Piece
 from growwebs.rows import Row
 from tests.values import any_values
-from tests.webs import PlainWeb, hander, ladder, names, near_web, nest, rails, random_books, tent, twigs
+from tests.webs import PlainWeb, bare_books, hander, ladder, names, near_web, nest, rails, random_books, tent, twigs
 
 
 def lettered_tree():
@@ -227,12 +227,12 @@ class NearestTest(unittest.TestCase):
                     self.assertEqual(told, want, (name, letter))
 
     def test_books_as_they_are(self):
-        for book in [ladder(), rails(), tent(), twigs(), nest(), hander(), lettered_tree()] + random_books(3, 80):
+        for book in [ladder(), rails(), tent(), twigs(), nest(), hander(), lettered_tree()] + random_books(3, 80) + bare_books(3, 80):
             self.check(book, Marks(book), {}, signs="abqvxyz.")
 
     def test_marks_that_add_and_take_away(self):
         rng = random.Random(530)
-        for book in [ladder(), rails(), hander(), lettered_tree(), twigs()] + random_books(530, 60):
+        for book in [ladder(), rails(), hander(), lettered_tree(), twigs()] + random_books(530, 60) + bare_books(530, 60):
             marks, letters = Marks(book), {}
             for place in rng.sample(book.grown(2)[0], min(9, len(book.grown(2)[0]))):
                 letter = rng.choice("abxz.")

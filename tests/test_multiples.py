@@ -18,7 +18,7 @@ from growwebs.sights import Sight
 from growwebs.tales import Tale
 from growwebs.ways import Ways
 from growwebs.errors import TooFar, TooMany
-from tests.webs import hander, ladder, names, nest, rails, random_books, strip, twigs
+from tests.webs import bare_books, hander, ladder, names, nest, rails, random_books, strip, twigs
 
 
 def longer(book, many):
@@ -35,7 +35,7 @@ def times(value, many):
 
 
 def books():
-    return [ladder(), rails(), strip((1, 2)), nest(), hander(), twigs()] + random_books(5050, 40)
+    return [ladder(), rails(), strip((1, 2)), nest(), hander(), twigs()] + random_books(5050, 40) + bare_books(5050, 30)
 
 
 def pairs(book, many=7):

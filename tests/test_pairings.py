@@ -11,7 +11,7 @@ from growwebs.pieces import Piece
 from growwebs.rows import Row
 from tests.plain_leads import hanging, pairings
 from tests.values import any_values
-from tests.webs import PlainWeb, hander, ladder, names, nest, rails, random_books, strip, tent, twigs
+from tests.webs import PlainWeb, bare_books, hander, ladder, names, nest, rails, random_books, strip, tent, twigs
 
 LADDER = {("base", ""): ((), ("ab",)), ("rung", "ab"): ((1, 2), ("",)), ("rung", ""): ((0,), ("",))}
 
@@ -81,7 +81,7 @@ class PairingsTest(unittest.TestCase):
 
     def test_exists_and_fails_at(self):
         seen = {}
-        for book in [handing(), hander(), strip(), nest(), twigs(), rails()] + random_books(58, 400):
+        for book in [handing(), hander(), strip(), nest(), twigs(), rails()] + random_books(58, 400) + bare_books(58, 400):
             told = Pairings(book)
             depth = told.fails_at()
             self.assertIs(told.exists, depth is None)
@@ -125,7 +125,7 @@ class PairingsTest(unittest.TestCase):
         self.assertGreater(min(kept, struck), 200)
 
     def test_lowest(self):
-        for book in [handing(), ladder(), nest()] + random_books(2525, 150):
+        for book in [handing(), ladder(), nest()] + random_books(2525, 150) + bare_books(2525, 150):
             told = Pairings(book)
             if not told.exists:
                 self.assertIsNone(told.lowest())
@@ -244,13 +244,13 @@ class PairingTest(unittest.TestCase):
     def test_partners_near_and_far(self):
         rng = random.Random(581)
         checked = 0
-        for book in [handing(), ladder(), strip(), nest()] + random_books(581, 400):
+        for book in [handing(), ladder(), strip(), nest()] + random_books(581, 400) + bare_books(581, 300):
             table = random_table(rng, book)
             if table is None:
                 continue
             told = Pairing(book, table)
             pairs = grown_pairing(book, told, 3)
-            web = PlainWeb(book.pieces, book.seed, 8 if book.is_finite else 6)
+            web = PlainWeb(book.pieces, book.seed, 8)
             for name, other in pairs.items():
                 self.assertIn(other, web.ties[name])
                 self.assertNotEqual(name, other)
@@ -280,7 +280,7 @@ class PairingTest(unittest.TestCase):
     def test_first_apart_and_equality(self):
         rng = random.Random(582)
         apart = 0
-        for book in [handing(), ladder(), strip()] * 5 + random_books(582, 600):
+        for book in [handing(), ladder(), strip()] * 5 + random_books(582, 600) + bare_books(582, 400):
             table, other = random_table(rng, book), random_table(rng, book)
             if table is None:
                 continue

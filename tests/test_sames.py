@@ -7,7 +7,7 @@ from growwebs.books import Book
 from growwebs.errors import WebError
 from growwebs.pieces import Piece
 from growwebs.sames import least_book, parting, same
-from tests.webs import PlainWeb, hander, ladder, nest, rails, random_books, strip, tent, twigs
+from tests.webs import PlainWeb, bare_books, hander, ladder, nest, rails, random_books, strip, tent, twigs
 
 WORDS = ["zz", "base", "q", "other", "k", "mm", "aa", "end", "seed", "b", "a", "x"]
 
@@ -128,7 +128,7 @@ class PartingTest(unittest.TestCase):
 
     def test_books_that_grow_the_same(self):
         rng = random.Random(26)
-        for book in [ladder(), hander(), nest(), twigs(), strip(), rails()] * 4 + random_books(26, 300):
+        for book in [ladder(), hander(), nest(), twigs(), strip(), rails()] * 4 + random_books(26, 300) + bare_books(26, 300):
             other = turned(rng, book)
             self.assertTrue(same(book, other) and same(other, book))
             self.assertIsNone(parting(book, other))
@@ -138,7 +138,7 @@ class PartingTest(unittest.TestCase):
     def test_books_with_one_thing_changed(self):
         rng = random.Random(59)
         seen = {}
-        for book in [ladder(), hander(), twigs(), strip(), rails()] * 6 + random_books(59, 400):
+        for book in [ladder(), hander(), twigs(), strip(), rails()] * 6 + random_books(59, 400) + bare_books(59, 300):
             other = changed(rng, turned(rng, book))
             if other is None:
                 continue
@@ -222,7 +222,7 @@ class LeastBookTest(unittest.TestCase):
     def test_equal_least_books_for_books_that_grow_the_same(self):
         rng = random.Random(5959)
         fewer = 0
-        for book in [ladder(), hander(), nest(), twigs(), strip(), rails()] * 4 + random_books(5959, 400):
+        for book in [ladder(), hander(), nest(), twigs(), strip(), rails()] * 4 + random_books(5959, 400) + bare_books(5959, 400):
             least = self.check(book)
             for other in (turned(rng, book), widened(rng, book), turned(rng, widened(rng, book))):
                 self.assertEqual(least_book(other), least)
@@ -232,7 +232,7 @@ class LeastBookTest(unittest.TestCase):
 
     def test_no_book_has_fewer_kinds(self):
         """Each two kinds of a least book grow different webs, however their mouths are matched."""
-        for book in random_books(595, 200):
+        for book in random_books(595, 200) + bare_books(595, 200):
             least = least_book(book)
             kinds = [kind for kind in least.pieces if kind != least.seed]
             for at, one in enumerate(kinds):

@@ -168,8 +168,8 @@ def count_pairs(book):
     return sum(piece.mouth * (piece.mouth - 1) // 2 for piece in book.pieces.values())
 
 
-def random_piece(rng, kinds, mouth, lengths):
-    new = rng.choice([1, 1, 2, 2, 3])
+def random_piece(rng, kinds, mouth, lengths, bare=False):
+    new = rng.choice([0, 0, 0, 1, 1, 2] if bare and mouth else [1, 1, 2, 2, 3])
     places = list("abc"[:mouth]) + list(range(new))
     ties = []
     for index, one in enumerate(places):
@@ -177,7 +177,7 @@ def random_piece(rng, kinds, mouth, lengths):
             if isinstance(other, int) and rng.random() < 0.55:
                 ties.append((one, other, rng.choice(lengths)))
     buds = []
-    for _ in range(rng.choice([0, 1, 1, 2])):
+    for _ in range(rng.choice([1, 1, 2] if new == 0 else [0, 1, 1, 2])):
         kind = rng.choice(list(kinds))
         if kinds[kind] <= len(places):
             buds.append((kind, tuple(rng.sample(places, kinds[kind]))))
@@ -185,12 +185,13 @@ def random_piece(rng, kinds, mouth, lengths):
     return Piece(mouth, letters, ties, buds)
 
 
-def random_book(rng, lengths=(1, 1, 2, 3, 9)):
+def random_book(rng, lengths=(1, 1, 2, 3, 9), bare=False):
     """A small random book; tries until one has no fault."""
     while True:
-        kinds = {kind: rng.choice([1, 2, 2, 3]) for kind in "pqr"[:rng.choice([1, 2, 2, 3])]}
-        pieces = {kind: random_piece(rng, kinds, kinds[kind], lengths) for kind in kinds}
-        pieces["seed"] = random_piece(rng, kinds, 0, lengths)
+        many = rng.choice([1, 2, 3, 4, 5] if bare else [1, 2, 2, 3])
+        kinds = {kind: rng.choice([1, 2, 2, 3]) for kind in "pqrtu"[:many]}
+        pieces = {kind: random_piece(rng, kinds, kinds[kind], lengths, bare) for kind in kinds}
+        pieces["seed"] = random_piece(rng, kinds, 0, lengths, bare)
         try:
             return Book("seed", pieces)
         except WebError:
@@ -200,3 +201,9 @@ def random_book(rng, lengths=(1, 1, 2, 3, 9)):
 def random_books(seed, many, lengths=(1, 1, 2, 3, 9)):
     rng = random.Random(seed)
     return [random_book(rng, lengths) for _ in range(many)]
+
+
+def bare_books(seed, many, lengths=(1, 1, 2, 3, 9)):
+    """Random books in which many pieces have no new place and only hand places on."""
+    rng = random.Random(seed)
+    return [random_book(rng, lengths, True) for _ in range(many)]
