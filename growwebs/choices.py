@@ -6,6 +6,7 @@ a tuple that begins with the keys of the buds of the piece, in a tuple; what els
 
 from growwebs.rings import turned_lines
 from growwebs.rows import plain_stretches
+from growwebs.walks import left_out
 
 
 def first_held(options, begun, rounds):
@@ -122,12 +123,9 @@ def keys_at(reckoning, row):
         seen = {}
         done = 0
         while done < times:
-            if tuple(keys) in seen:
-                # The keys go round from here on, so whole rounds can be left out.
-                around = done - seen[tuple(keys)]
-                done = done + (times - done) // around * around
-                if done == times:
-                    break
+            done = left_out(seen, tuple(keys), done, times)
+            if done == times:
+                break
             seen[tuple(keys)] = done
             keys = keys_behind(reckoning, keys, word)
             done = done + 1

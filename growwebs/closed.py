@@ -2,6 +2,7 @@
 
 from growwebs.errors import BadTable
 from growwebs.rows import plain_stretches
+from growwebs.walks import left_out
 
 
 def met_values(seed, table, settled):
@@ -39,12 +40,9 @@ def key_at(belows, start, row):
         seen = {}
         done = 0
         while done < times:
-            if key in seen:
-                # The keys go round from here on, so whole rounds can be left out.
-                around = done - seen[key]
-                done = done + (times - done) // around * around
-                if done == times:
-                    break
+            done = left_out(seen, key, done, times)
+            if done == times:
+                break
             seen[key] = done
             for number in word:
                 key = belows[key][number]

@@ -15,6 +15,7 @@ extra of the gadget of a bud.
 from growwebs.nets import Net, add_link, add_node, on_all_ways
 from growwebs.patches import free_buds, piece_at
 from growwebs.pieces import MOUTH, spot_of
+from growwebs.search import common_length
 
 
 def add_ties(net, at, piece, nodes):
@@ -84,14 +85,6 @@ def chain_of(net, found, between, kinds, plan, gadgets):
     bridges = sum([weight[1] for weight in weights])
     inner = tuple([net.nodes[node] for node in found[1:-1]])
     return (cuts, bridges, inner, tuple(items))
-
-
-def common_length(one, other):
-    """How many entries from the first one on are the same in both lists."""
-    size = 0
-    while size < min(len(one), len(other)) and one[size] == other[size]:
-        size += 1
-    return size
 
 
 def from_letter(told, letter, other):

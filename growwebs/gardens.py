@@ -1,10 +1,11 @@
 """Gardens: books that change by deeds, which can be undone, and that keep what guards ask for."""
 
 from growwebs.books import Book
-from growwebs.checks import ALPHABET, is_within
-from growwebs.errors import BadBook, BadGuard, BadWord, NoBud, NoKind, NoPlace, NoTie, NothingToUndo, Refused
+from growwebs.checks import is_within
+from growwebs.errors import BadBook, BadGuard, NoBud, NoKind, NoPlace, NoTie, NothingToUndo, Refused
 from growwebs.guards import are_same_guards, holds, is_guard
-from growwebs.pieces import NO_LETTER, Piece, is_place
+from growwebs.pieces import Piece, is_place
+from growwebs.sights import check_letter
 
 
 def has_ends(tie, one, other):
@@ -70,8 +71,7 @@ class Garden:
         piece = self._piece_of(kind)
         if not is_within(at, 0, len(piece.letters) - 1):
             raise NoPlace(at)
-        if not isinstance(letter, str) or len(letter) != 1 or letter not in ALPHABET + NO_LETTER:
-            raise BadWord(letter)
+        check_letter(letter)
         letters = piece.letters[:at] + letter + piece.letters[at + 1:]
         self._set_piece(kind, Piece(piece.mouth, letters, piece.ties, piece.buds))
 

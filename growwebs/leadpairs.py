@@ -3,6 +3,7 @@
 from growwebs.choices import held_options, keys_at, keys_below
 from growwebs.colourings import options_of
 from growwebs.rules import ascending
+from growwebs.search import common_length
 
 
 class Chances:
@@ -43,14 +44,6 @@ def colours_down(chances, keys, row, number):
         found = {key: ascending_signs([below[under_key] for under_key in under[key][row[depth]]])
                  for key in levels[depth]}
     return found
-
-
-def common_length(one, other):
-    """How many numbers from the first one on are the same in two tuples."""
-    many = 0
-    while many < min(len(one), len(other)) and one[many] == other[many]:
-        many += 1
-    return many
 
 
 def pairs_told(chances, one, other):

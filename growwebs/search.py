@@ -1,4 +1,4 @@
-"""Finding an entry in an ascending list."""
+"""Finding an entry in an ascending list, and what two lists have in common."""
 
 
 def index_at(entries, number):
@@ -12,3 +12,11 @@ def index_at(entries, number):
         else:
             high = middle
     return low
+
+
+def common_length(one, other):
+    """How many entries from the first one on are the same in both lists."""
+    size = 0
+    while size < min(len(one), len(other)) and one[size] == other[size]:
+        size += 1
+    return size

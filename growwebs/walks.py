@@ -28,17 +28,22 @@ def step_through(plan, kind, word):
     return kind, len(word)
 
 
+def left_out(seen, state, done, times):
+    """How often a word has been gone when whole rounds are left out, once a state comes again."""
+    if state not in seen:
+        return done
+    around = done - seen[state]
+    return done + (times - done) // around * around
+
+
 def walk_stretch(plan, kind, word, times):
     """The same as step_through for a word that stands times times."""
     seen = {}
     done = 0
     while done < times:
-        if kind in seen:
-            # The kinds go round from here on, so whole rounds can be left out.
-            around = done - seen[kind]
-            done = done + (times - done) // around * around
-            if done == times:
-                break
+        done = left_out(seen, kind, done, times)
+        if done == times:
+            break
         seen[kind] = done
         kind, gone = step_through(plan, kind, word)
         if kind is None:
