@@ -17,11 +17,16 @@ def is_place(value, mouth, new):
     return is_within(value, 0, new - 1)
 
 
+def is_letter(value):
+    """Whether the value is one letter from a to z, or a full stop."""
+    return isinstance(value, str) and len(value) == 1 and (value == NO_LETTER or value in ALPHABET)
+
+
 def are_letters(value):
     """Whether the value is a string of at most six letters and full stops."""
     if not isinstance(value, str) or len(value) > MOST_NEW:
         return False
-    return all([sign == NO_LETTER or sign in ALPHABET for sign in value])
+    return all([is_letter(sign) for sign in value])
 
 
 def is_tie(value, mouth, new):

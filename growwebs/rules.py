@@ -2,7 +2,7 @@
 
 from growwebs.checks import ALPHABET, is_list
 from growwebs.errors import BadRule
-from growwebs.pieces import NO_LETTER
+from growwebs.pieces import is_letter
 
 MOST_COLOURS = 4
 
@@ -25,12 +25,7 @@ def are_letters_of(value, colours):
         return True
     if not isinstance(value, dict):
         return False
-    for letter in value:
-        if not isinstance(letter, str) or len(letter) != 1 or letter not in ALPHABET + NO_LETTER:
-            return False
-        if not are_some_of(value[letter], colours):
-            return False
-    return True
+    return all([is_letter(letter) and are_some_of(value[letter], colours) for letter in value])
 
 
 def ascending(signs):

@@ -1,11 +1,11 @@
 """Sights: the web as it is seen from a place, at all distances."""
 
 from growwebs.books import Place, check_book
-from growwebs.checks import ALPHABET, is_within
+from growwebs.checks import is_within
 from growwebs.distances import kinds_on, view_from
 from growwebs.errors import BadNumber, BadWord, NoSuch, TooFar, TooLong, TooMany
 from growwebs.far import far_distance
-from growwebs.pieces import NO_LETTER
+from growwebs.pieces import is_letter
 from growwebs.rows import LONGEST_TUPLE, count_row
 from growwebs.spheres import Rim, Sphere, index_in, name_in, names_in
 from growwebs.stands import Numbering, met, told_stands
@@ -68,7 +68,7 @@ def counts_of(values):
 
 def check_letter(letter):
     """Raise BadWord for a value that is no letter of a place."""
-    if not isinstance(letter, str) or len(letter) != 1 or letter not in ALPHABET + NO_LETTER:
+    if not is_letter(letter):
         raise BadWord(letter)
 
 
