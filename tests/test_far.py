@@ -11,7 +11,7 @@ from growwebs.pieces import Piece
 from growwebs.rows import Loop, Row
 from growwebs.tales import Tale
 from tests.values import any_values
-from tests.webs import hander, ladder, near_web, rails, random_books, tent, twigs
+from tests.webs import bare_books, hander, ladder, near_web, rails, random_books, tent, twigs
 
 FAR = 10 ** 300
 
@@ -57,8 +57,12 @@ def random_loop(book, rng):
 def random_place(book, head, word, rng):
     """A place near the seed, or on the rows of the loop, or beside them."""
     row = (head + word * rng.randrange(6))[:rng.randrange(12)] if rng.random() < 0.6 else ()
-    row = down(book, row, 2, rng)[0]
-    return book.place(row, 0)
+    return first_told(book, down(book, row, 2, rng)[0])
+
+
+def first_told(book, row):
+    """A place of the piece at a row, a new one if there is any."""
+    return book.place(row, 0 if book.pieces[book.kind_at(row)].letters else "a")
 
 
 def rounds():
@@ -93,7 +97,8 @@ class FarTest(unittest.TestCase):
 
     def test_far_distance_is_the_distance(self):
         apart = 0
-        for seed, book in enumerate([hander(), ladder(), rails(), tent(), twigs()] + rounds() + random_books(81, 100)):
+        for seed, book in enumerate([hander(), ladder(), rails(), tent(), twigs()] + rounds() + random_books(81, 100)
+                                    + bare_books(81, 60)):
             rng = random.Random(seed)
             near = near_web(book, 3, 500)[1]
             for _ in range(15):
@@ -151,7 +156,7 @@ class FarTest(unittest.TestCase):
     def test_tales_are_the_distances(self):
         told = apart = 0
         books = [hander(), ladder(), rails(), tent(), twigs()] + rounds() \
-            + random_books(82, 120) + random_books(83, 60, (1, 50, 1000))
+            + random_books(82, 120) + random_books(83, 60, (1, 50, 1000)) + bare_books(82, 60)
         for seed, book in enumerate(books):
             rng = random.Random(seed)
             for _ in range(6):
@@ -181,7 +186,7 @@ class FarTest(unittest.TestCase):
         self.assertGreater(min(told, apart), 300)
 
     def test_a_longer_head_and_tail_and_other_words(self):
-        for seed, book in enumerate([ladder(), twigs()] + rounds() + random_books(84, 60)):
+        for seed, book in enumerate([ladder(), twigs()] + rounds() + random_books(84, 60) + bare_books(84, 40)):
             rng = random.Random(seed)
             found = random_loop(book, rng)
             if found is None:
@@ -269,7 +274,7 @@ class FarTest(unittest.TestCase):
                 tail, second = (Row([(rng.choice(words), 10 ** 40) for _ in range(5)]) for _ in range(2))
                 piece = book.pieces[kind]
                 end, other = (rng.choice(list("abc"[:piece.mouth])) for _ in range(2))
-                place = book.place(((number,) + words[0] * 200)[:200], 0)
+                place = first_told(book, ((number,) + words[0] * 200)[:200])
                 loop = Loop(head, word, tail)
                 tale, between = tale_to(book, place, loop, end), tale_between(book, loop, end, second, other)
                 short = (number,) + (words[0] * 200)[:len(words[0]) * (199 // len(words[0]))]
