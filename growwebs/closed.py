@@ -50,21 +50,16 @@ def key_at(belows, start, row):
     return key
 
 
-def keys_beside(belows, others, start):
-    """The triples (row, key, other key) of all pairs of keys that two tables have at one row.
-
-    Each pair is told with the first row at which it is met, shorter rows first, then ascending.
-    """
-    rows = {(start, start): ()}
-    waiting = [(start, start)]
+def keys_with_rows(belows, start):
+    """The pairs (row, key) of all met keys, each with the first row at which it is met."""
+    rows = {start: ()}
+    waiting = [start]
     at = 0
     while at < len(waiting):
-        key, other = waiting[at]
-        row = rows[waiting[at]]
-        for number in range(len(belows[key])):
-            pair = (belows[key][number], others[other][number])
-            if pair not in rows:
-                rows[pair] = row + (number,)
-                waiting.append(pair)
+        key = waiting[at]
+        for number, below in enumerate(belows[key]):
+            if below not in rows:
+                rows[below] = rows[key] + (number,)
+                waiting.append(below)
         at += 1
-    return [(rows[pair], pair[0], pair[1]) for pair in waiting]
+    return [(rows[key], key) for key in waiting]

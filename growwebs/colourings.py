@@ -95,17 +95,13 @@ def options_of(plan, rule, key, kept=()):
     """The list of (keys of the buds, colours of the kept places, how many colourings, the first)."""
     kind, mouth = key
     piece = plan.pieces[kind]
-    found = {}
     states = all_states(piece, rule, mouth, kept)
+    options = []
     for state in states:
-        many, first = states[state]
+        # Nothing else is left in a state than what buds and kept places have: so no option comes twice.
         below = tuple([(bud, colours_at(piece, state, row)) for bud, row in piece.buds])
-        told = (below, "".join([state[spot] for spot in kept]))
-        if told in found:
-            found[told] = (found[told][0] + many, min(found[told][1], first))
-        else:
-            found[told] = (many, first)
-    return [(below, colours, found[(below, colours)][0], found[(below, colours)][1]) for below, colours in found]
+        options.append((below, "".join([state[spot] for spot in kept])) + states[state])
+    return options
 
 
 def is_right(piece, rule, mouth, value):

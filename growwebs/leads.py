@@ -3,7 +3,7 @@
 from growwebs.books import Place, check_book
 from growwebs.checks import is_within
 from growwebs.choices import Reckoning, first_failing, keys_at, rows_to
-from growwebs.closed import key_at, keys_beside, met_values
+from growwebs.closed import key_at, keys_with_rows, met_values
 from growwebs.colourings import colours_at, is_right, options_of, words_of
 from growwebs.errors import BadNumber, BadRule, Endless, NoKind, OtherBook, TooFar, TooLong
 from growwebs.leadcounts import count_leads, count_to_depth, free_keys
@@ -160,9 +160,10 @@ class Lead:
 
     def _apart(self, other):
         """The name of the first place with unlike colours in two leads of equal books, or None."""
-        for row, key, beside in keys_beside(self._belows, other._belows, (self.book.seed, "")):
+        # What has another colour further up comes first: so both have one key at each row looked at.
+        for row, key in keys_with_rows(self._belows, (self.book.seed, "")):
             for number, colour in enumerate(self.table[key]):
-                if colour != other.table[beside][number]:
+                if colour != other.table[key][number]:
                     return row, number
         return None
 

@@ -2,7 +2,7 @@
 
 from growwebs.books import Place, check_book
 from growwebs.choices import Reckoning, first_failing, keys_at, rows_to
-from growwebs.closed import key_at, keys_beside, met_values
+from growwebs.closed import key_at, keys_with_rows, met_values
 from growwebs.errors import NoKind, OtherBook, TooLong
 from growwebs.matchings import all_pairings, cover_of, keys_of, settled_way, subsets_of
 from growwebs.pieces import MOUTH
@@ -120,14 +120,16 @@ class Pairing:
     def _apart(self, other):
         """The name of the first place with unlike partners in two pairings of equal books, or None."""
         pieces = self.book.plan.pieces
-        for row, key, beside in keys_beside(self._belows, other._belows, (self.book.seed, "")):
+        # What has another partner further up comes first: so both have one key at each row looked at.
+        for row, key in keys_with_rows(self._belows, (self.book.seed, "")):
             for number in range(len(pieces[key[0]].letters)):
-                if not self._pairs_alike(other, key, beside, number):
+                if not self._pairs_alike(other, key, number):
                     return row, number
         return None
 
-    def _pairs_alike(self, other, key, beside, told):
-        """Whether a place of a piece with these keys has one partner in both pairings."""
+    def _pairs_alike(self, other, key, told):
+        """Whether a new place of a piece that has this key in both pairings has one partner in both."""
+        beside = key
         while True:
             piece = self.book.plan.pieces[key[0]]
             cover = cover_of(piece, self.table[key], told)

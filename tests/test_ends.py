@@ -135,7 +135,12 @@ class EndsTest(unittest.TestCase):
             told = ends(book.place((), number))
             self.assertEqual(told.amount, amount)
             self.assertEqual(told.rows, [((), (0,), 1)] if amount == "listed" else [])
-        for book, amount in ((tent(), "none"), (nest(), "none"), (ladder(), "listed"), (strip(), "listed"),
+        deep = Book("s", {"s": Piece(0, ".", [], [("p", (0,))]),
+                          "p": Piece(1, ".", [("a", 0, 1)], [("p", (0,)), ("q", (0,))]),
+                          "q": Piece(1, ".", [("a", 0, 2)], [("q", (0,)), ("r", (0,))]),
+                          "r": Piece(1, ".", [("a", 0, 1)], [("r", (0,))])})
+        self.assertEqual(growth(deep.place((), 0)).degree, 3)
+        for book, amount in ((deep, "countable"), (tent(), "none"), (nest(), "none"), (ladder(), "listed"), (strip(), "listed"),
                              (twigs(), "more"), (hander(), "more")):
             self.assertEqual(vars(ends(book.place((), 0)))["amount"], amount)
 

@@ -250,6 +250,12 @@ class CountTest(unittest.TestCase):
         turning = Rule("abc", ["aa", "ab", "bb", "cc"], {"x": "a"})
         self.assertTrue(Leads(Book("s", pieces), turning).is_endless)
 
+    def test_one_key_that_goes_round(self):
+        book = Book("s", {"s": Piece(0, "x", [], [("p", (0,))]), "p": Piece(1, "x.", [("a", 1, 1)], [("p", (0,))])})
+        for letters, endless in (({"x": "a"}, True), ({"x": "a", ".": "b"}, False)):
+            leads = Leads(book, Rule("abc", ["ab", "ac"], letters))
+            self.assertEqual((leads.may("p")[0], leads.is_endless), ("a", endless))
+
     def test_endless_against_the_counts_of_depths(self):
         seen = {}
         for book, rule, far in small_webs(5757, 450):
