@@ -26,9 +26,7 @@ class Lonely:
 
 
 def held(cares, radius):
-    """The cares, None for each one that is greater than the radius, if there is one."""
-    if radius is None:
-        return tuple(cares)
+    """The cares, None for each one that is greater than the radius."""
     return tuple([None if care is None or care > radius else care for care in cares])
 
 

@@ -90,13 +90,12 @@ def count_with(rows, told):
 
 
 def least_piece(trimmed, kind, names):
-    """The new piece of a kind; names has the new names of the kinds, with None for what does not live."""
+    """The new piece of a kind; names has the new names of the first kinds like each one."""
     piece = trimmed.pieces[kind]
     letters = renamed(trimmed, kind)
     kept = living_buds(trimmed, kind)
-    rows = [row_of_bud(trimmed, below, row, letters) if below in trimmed.living else ()
-            for below, row in kept]
-    kinds = [names[first_of(trimmed, below)] for below, _ in kept]
+    rows = [row_of_bud(trimmed, below, row, letters) for below, row in kept]
+    kinds = [names[trimmed.first[below]] for below, _ in kept]
     ties = [(one, told_in(letters, other), length) for one, other, length in piece.ties]
     mouth = 0 if kind == trimmed.seed else max(1, len(letters))
     return Piece(mouth, piece.letters, ties, list(zip(kinds, hung_rows(piece, letters, rows))))
@@ -110,11 +109,6 @@ def living_buds(trimmed, kind):
     return buds
 
 
-def first_of(trimmed, kind):
-    """The first kind like a kind, None for one that does not live."""
-    return trimmed.first[kind] if kind in trimmed.living else None
-
-
 def least_book(book):
     """The book with as few kinds as possible that grows the same web."""
     trimmed = Trimmed(book)
@@ -122,14 +116,10 @@ def least_book(book):
     waiting = [book.seed]
     at = 0
     while at < len(waiting):
-        if waiting[at] is not None:
-            for below, _ in living_buds(trimmed, waiting[at]):
-                kind = first_of(trimmed, below)
-                if kind not in names:
-                    names[kind] = ALPHABET[len(names)]
-                    waiting.append(kind)
+        for below, _ in living_buds(trimmed, waiting[at]):
+            kind = trimmed.first[below]
+            if kind not in names:
+                names[kind] = ALPHABET[len(names)]
+                waiting.append(kind)
         at += 1
-    pieces = {}
-    for kind in waiting:
-        pieces[names[kind]] = Piece(1, "") if kind is None else least_piece(trimmed, kind, names)
-    return Book(names[book.seed], pieces)
+    return Book(names[book.seed], {names[kind]: least_piece(trimmed, kind, names) for kind in waiting})

@@ -24,6 +24,10 @@ def is_letter(value):
     return isinstance(value, str) and len(value) == 1 and value in "abcdefghijklmnopqrstuvwxyz."
 
 
+def is_word(value):
+    return isinstance(value, str) and 1 <= len(value) <= 8 and not value.strip("abcdefghijklmnopqrstuvwxyz")
+
+
 def told_piece(piece):
     return {"mouth": piece.mouth, "letters": piece.letters, "ties": list(piece.ties), "buds": list(piece.buds)}
 
@@ -216,11 +220,15 @@ class DeedTest(unittest.TestCase):
                 self.assertEqual(caught.exception.kind, "rung")
                 self.assertIs(caught.exception.one, one)
                 self.assertIs(caught.exception.other, other)
+            if not is_word(value):
+                with self.assertRaises(BadBook) as caught:
+                    garden.set_kind(value, Piece(1, ""))
+                self.assertIs(caught.exception.kind, value)
             if not isinstance(value, Piece):
                 with self.assertRaises(BadBook) as caught:
                     garden.set_kind("rung", value)
                 self.assertEqual(caught.exception.kind, "rung")
-        for one, other in ((True, 0), (False, "a"), ("a", "b"), (0, 0), ("a", 1)):
+        for one, other in ((True, 0), (0, True), ("a", False), (False, "a"), ("a", "b"), (0, 0), ("a", 1)):
             with self.assertRaises(NoTie):
                 garden.cut_tie("rung", one, other)
         self.assertEqual((garden.book, len(garden)), (ladder(), 0))

@@ -256,6 +256,14 @@ class CountTest(unittest.TestCase):
             leads = Leads(book, Rule("abc", ["ab", "ac"], letters))
             self.assertEqual((leads.may("p")[0], leads.is_endless), ("a", endless))
 
+    def test_a_choice_some_steps_beside_what_goes_round(self):
+        pieces = {"s": Piece(0, "x", [], [("p", (0,))]), "p": Piece(1, "x", [], [("p", (0,)), ("q", (0,))]),
+                  "q": Piece(1, "x", [], [("r", (0,))]), "r": Piece(1, "x", [], [("t", (0,))])}
+        for letter, endless in ((".", True), ("x", False)):
+            pieces["t"] = Piece(1, letter)
+            leads = Leads(Book("s", pieces), Rule("ab", [], {"x": "a"}))
+            self.assertIs(leads.is_endless, endless)
+
     def test_endless_against_the_counts_of_depths(self):
         seen = {}
         for book, rule, far in small_webs(5757, 450):

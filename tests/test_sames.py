@@ -289,6 +289,12 @@ class LeastBookTest(unittest.TestCase):
         self.assertEqual(least_book(other), least)
         self.assertEqual(least_book(book=other), least_book(one))
 
+    def test_a_kind_that_grows_what_the_seed_grows(self):
+        book = Book("s", {"s": Piece(0, "x.", [(0, 1, 1)], [("p", (0,))]),
+                          "p": Piece(1, "x.", [(0, 1, 1)], [("p", (1,))])})
+        least = self.check(book)
+        self.assertEqual((len(least.pieces), least.pieces["a"].mouth, least.pieces["b"].mouth), (2, 0, 1))
+
     def test_kinds_that_differ_far_down(self):
         pieces = {"s": Piece(0, ".", [], [("a", (0,)), ("b", (0,))]), "d": Piece(1, "x", [("a", 0, 1)], [("a", (0,))]),
                   "e": Piece(1, "y", [("a", 0, 1)], [("b", (0,))]),
