@@ -108,7 +108,7 @@ class EndsTest(unittest.TestCase):
             if head:
                 self.assertNotEqual(head[-1], turn[-1])
             for size in range(1, len(turn)):
-                self.assertNotEqual(turn, (turn[:size] * len(turn))[:len(turn)])
+                self.assertNotEqual(turn, turn[:size] * (len(turn) // size))
         rows = [(head + turn * 200)[:200] for head, turn, _ in told.rows]
         self.assertEqual(rows, sorted(set(rows)))
 
@@ -117,11 +117,11 @@ class EndsTest(unittest.TestCase):
         told = ends(place)
         web = PlainWeb(book.pieces, book.seed, depth)
         groups = far_groups(web, web.search((place.row, place.number)), shallow)
-        far = [group for group in groups if any(len(row) > depth - 4 for row, _ in group)]
+        far = [group for group in groups if any(len(row) > depth - 12 for row, _ in group)]
         self.assertEqual(len(far), sum(many for _, _, many in told.rows), (vars(told), place.row))
         for head, turn, many in told.rows:
             along = [group for group in far
-                     if any(len(row) > depth - 4 and is_along(row, head, turn) for row, _ in group)]
+                     if any(len(row) > depth - 12 and is_along(row, head, turn) for row, _ in group)]
             self.assertEqual(len(along), many)
 
     def test_the_examples(self):
@@ -156,7 +156,7 @@ class EndsTest(unittest.TestCase):
         book = rail_book()
         told = ends(book.place((), 1))
         self.check_listed(told)
-        self.check_plain(book, book.place((), 1), 20, 9)
+        self.check_plain(book, book.place((), 1), 28, 9)
         self.assertEqual(told.rows, [((0, 0), (1,), 1), ((0, 1), (0,), 3)])
         self.assertEqual(ends(book.place((0, 1, 0, 0), 1)).rows, told.rows)
         alone = ends(book.place((), 3))
@@ -168,7 +168,7 @@ class EndsTest(unittest.TestCase):
             told = ends(book.place(row, number))
             self.assertEqual(told.rows, [((0,), (0, 1), 1), ((), (1,), 1)])
             self.check_listed(told)
-        self.check_plain(book, book.place((), 0), 20, 9)
+        self.check_plain(book, book.place((), 0), 28, 9)
 
     def test_random_webs(self):
         checked = 0
@@ -176,11 +176,11 @@ class EndsTest(unittest.TestCase):
             places = book.grown(1)[0]
             listed = [place for place in places if ends(place).amount == "listed"]
             try:
-                book.grown(22, most=3000)
+                book.grown(28, most=3000)
             except TooMany:
                 continue
             for place in listed[:3]:
-                self.check_plain(book, place, 22, 9)
+                self.check_plain(book, place, 28, 9)
                 checked += 1
         self.assertGreater(checked, 30)
 
