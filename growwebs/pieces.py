@@ -124,5 +124,8 @@ def hanging_at(piece, told):
     found = []
     for number, (kind, row) in enumerate(piece.buds):
         if told in row:
-            found.append((number, kind, MOUTH[row.index(told)]))
+            at = 0
+            while row[at] != told:
+                at += 1
+            found.append((number, kind, MOUTH[at]))
     return found

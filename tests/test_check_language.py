@@ -19,6 +19,16 @@ BREACHES = {
     "L5 dunder": {"a.py": "class A:\n    def __hash__(self):\n        return 1\n"},
     "L5 changes": {"a.py": "class A:\n    def __add__(self, other):\n        return f(other)\n\n\n"
                            "def f(xs):\n    xs.append(1)\n    return xs\n"},
+    "L5 passed": {"a.py": "class A:\n    def __eq__(self, other):\n        return f(other, other)\n\n\n"
+                          "def f(x, do):\n    return do(x)\n"},
+    "L5 kept": {"a.py": "class A:\n    @property\n    def far(self):\n        return f(self)\n\n\n"
+                        "def f(x):\n    do = x\n    return do(1)\n"},
+    "L5 held": {"a.py": "class A:\n    def __init__(self, index):\n        self.index = index\n\n\n"
+                        "class B:\n    def __eq__(self, other):\n        return self._like(other)\n\n"
+                        "    def _like(self, other):\n        return f(other) == 1\n\n\n"
+                        "def f(row):\n    return row.index(1)\n"},
+    "L5 item": {"a.py": "class A:\n    @property\n    def far(self):\n        return f([self])\n\n\n"
+                        "def f(xs):\n    return xs[0](1)\n"},
     "L6": {"a.py": "def f():\n    global x\n"},
     "L7 float": {"a.py": "def f():\n    return 1.5\n"},
     "L7 divide": {"a.py": "def f(a, b):\n    return a / b\n"},
@@ -72,6 +82,16 @@ class CheckLanguageTest(unittest.TestCase):
     def test_a_package_without_a_breach(self):
         code, told = self.check({"a.py": '"""Text."""\n\nONE = 1\n\n\ndef f(x):\n    return x + ONE\n'})
         self.assertEqual(code, 0, told)
+
+    def test_what_only_looks_like_a_breach(self):
+        """A method of a builtin value is called; where nothing pure is run, also one with an attribute's name."""
+        held = "class A:\n    def __init__(self, index):\n        self.index = index\n\n\n"
+        same = "class B:\n    def __eq__(self, other):\n        return f([other]) == 1\n\n\n"
+        for text in (held + same + "def f(row):\n    return row.count(1)\n",
+                     held + "def f(row):\n    return row.index(1)\n",
+                     held + same + "def f(row):\n    found = []\n    found.append(1)\n    return len(found)\n"):
+            code, told = self.check({"a.py": text})
+            self.assertEqual(code, 0, told)
 
     def test_breaches_are_found(self):
         for name, files in BREACHES.items():

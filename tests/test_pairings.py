@@ -9,6 +9,7 @@ from growwebs.errors import BadTable, NoKind, OtherBook, TooLong
 from growwebs.pairings import Pairing, Pairings
 from growwebs.pieces import Piece
 from growwebs.rows import Row
+from tests.equality import check_equality
 from tests.plain_leads import hanging, pairings
 from tests.values import any_values
 from tests.webs import PlainWeb, bare_books, hander, ladder, names, nest, rails, random_books, strip, tent, twigs
@@ -63,6 +64,23 @@ def random_table(rng, book):
         return None
     alive = Pairings(book)._reckoning.alive
     return {key: rng.choice(alive[key])[1] for key in alive}
+
+
+def six_pairings(turn, row):
+    """The pairings of a web in which one of three places is paired further up, the others further down."""
+    upper = Piece(3, "...", [("a", 0, 1), ("b", 1, 1), ("c", 2, 1), (0, 1, 1), (0, 2, 1), (1, 2, 1)], [("q", row)])
+    lower = Piece(3, "..", [(letter, number, 1) for letter in "abc" for number in (0, 1)])
+    book = Book("s", {"s": Piece(0, "...", [], [("p", turn)]), "p": upper, "q": lower})
+    found = []
+    for number, letter in enumerate("abc"):
+        one, other = [at for at in range(3) if at != number]
+        ties = sorted(upper.ties.index(tie) for tie in ((number, letter, 1), (one, other, 1)))
+        inside = "".join(below for below, told in zip("abc", row) if told != letter)
+        for numbers in ((0, 1), (1, 0)):
+            below = sorted(lower.ties.index((at, sign, 1)) for at, sign in zip(numbers, inside))
+            found.append(Pairing(book, {("s", ""): ((), ("abc",)), ("p", "abc"): (ties, (inside,)),
+                                        ("q", inside): (below, ())}))
+    return found
 
 
 class PairingsTest(unittest.TestCase):
@@ -296,6 +314,30 @@ class PairingTest(unittest.TestCase):
             self.assertIs(one == two, place is None)
             self.assertIsNone(two.first_apart(other=Pairing(book, other)))
         self.assertGreater(apart, 25)
+
+    def test_equality_in_one_book_and_in_books_made_apart(self):
+        rng = random.Random(15)
+        unequal = 0
+        for book in [ladder(), handing(), strip()] * 4 + random_books(15, 300) + bare_books(15, 200):
+            tables = (random_table(rng, book), random_table(rng, book))
+            if tables[0] is None:
+                continue
+            unequal += not check_equality(self, book, Pairing, tables)
+        self.assertGreater(unequal, 10)
+
+    def test_equality_where_places_are_handed_on_as_any_letter(self):
+        for turn in itertools.permutations(range(3)):
+            for row in itertools.permutations("abc"):
+                told = six_pairings(turn, row)
+                grown = [grown_pairing(pairing.book, pairing, 2) for pairing in told]
+                for one, pairs in zip(told, grown):
+                    for other, others in zip(told, grown):
+                        unlike = [name for name in pairs if pairs[name] != others[name]]
+                        self.assertIs(one == other, unlike == [])
+                        place = one.first_apart(other)
+                        found = None if place is None else (place.row, place.number)
+                        self.assertEqual(found, min(unlike, key=lambda name: (len(name[0]), name), default=None))
+                self.assertEqual(len({tuple(pairs.items()) for pairs in grown}), 6)
 
     def test_equality_with_others(self):
         one = Pairing(ladder(), LADDER)

@@ -3,7 +3,7 @@
 import unittest
 
 from growwebs.errors import BadPiece
-from growwebs.pieces import Piece
+from growwebs.pieces import Piece, hanging_at
 from tests.values import Spy, any_values
 
 
@@ -152,3 +152,13 @@ class PiecesTest(unittest.TestCase):
             if not isinstance(other, Piece):
                 self.assertFalse(piece == other)
                 self.assertFalse(other == piece)
+
+    def test_buds_that_hang_at_a_place(self):
+        buds = [("k", ("b", 0, "a")), ("m", (1,)), ("k", ("c", "b", 1)), ("n", (0, "a"))]
+        piece = Piece(3, "..", [], buds)
+        for told in ("a", "b", "c", 0, 1):
+            want = [(number, kind, letter) for number, (kind, row) in enumerate(buds)
+                    for letter, place in zip("abc", row) if place == told]
+            self.assertEqual(hanging_at(piece, told), want)
+        self.assertEqual(hanging_at(piece, "a"), [(0, "k", "c"), (3, "n", "b")])
+        self.assertEqual(hanging_at(Piece(1, "."), 0), [])

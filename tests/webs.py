@@ -150,6 +150,13 @@ def names(places):
     return [(place.row, place.number) for place in places]
 
 
+def made_again(book):
+    """An equal book that has no object in common with a book."""
+    pieces = {kind: Piece(piece.mouth, piece.letters, [list(tie) for tie in piece.ties],
+                          [[below, list(row)] for below, row in piece.buds]) for kind, piece in book.pieces.items()}
+    return Book(book.seed, pieces)
+
+
 def near_web(book, depth=2, most=4000):
     """A plain web in which all short ways among the places to a depth are, and these places."""
     far = min(depth + 4 + count_pairs(book), 9)

@@ -97,10 +97,16 @@ def is_literal_number(node):
     return isinstance(node, ast.Constant) and isinstance(node.value, int)
 
 
+def local_names(node):
+    """The parameters and local variables of a function, those of its comprehensions among them."""
+    names = {inner.arg for inner in ast.walk(node) if isinstance(inner, ast.arg)}
+    return names | {inner.id for inner in ast.walk(node)
+                    if isinstance(inner, ast.Name) and isinstance(inner.ctx, ast.Store)}
+
+
 def check_pure(checker, module, node):
-    """What an operator or a property runs changes nothing but what it creates itself."""
+    """What an operator, a property or __eq__ runs changes nothing but what it creates itself."""
     own = created_names(node)
-    parameters = {argument.arg for argument in node.args.args}
     for root, inner in changes_in(node):
         if root not in own:
             checker.tell(module, inner, "L5", f"an operator runs this, and {root} is changed")
@@ -112,9 +118,16 @@ def check_pure(checker, module, node):
             plain = isinstance(inner.op, ast.Add) and is_literal_number(inner.value)
             if not plain and not isinstance(inner.op, (ast.Sub, ast.FloorDiv)):
                 checker.tell(module, inner, "L5", "an operator runs this augmented assignment")
-        if isinstance(inner, ast.Call) and isinstance(inner.func, ast.Name):
-            if inner.func.id in parameters or inner.func.id == "map":
-                checker.tell(module, inner, "L5", "an operator runs this, and calls what it is passed")
+        if isinstance(inner, ast.Call) and calls_what_is_held(checker, node, inner.func):
+            checker.tell(module, inner, "L5", "an operator runs this, and calls what it is passed or holds")
+
+
+def calls_what_is_held(checker, node, func):
+    """Whether a call in a function may call what the function is passed, or what an object holds."""
+    if isinstance(func, ast.Name):
+        return func.id in local_names(node) or func.id == "map"
+    # The attribute of some class may be what is called, also where a builtin value has such a method.
+    return not isinstance(func, ast.Attribute) or func.attr in checker.assigned
 
 
 class CallGraph:
