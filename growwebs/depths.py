@@ -3,7 +3,9 @@
 from growwebs.checks import is_within
 from growwebs.errors import BadNumber, BadWord, NoKind, TooFar, TooMany
 from growwebs.leading import all_rows, all_turns, longest_chains, rows_from
+from growwebs.levels import row_product, squared
 from growwebs.masks import joined_parts, mask_of, plain_part
+from growwebs.powers import turned_table
 from growwebs.times import Parts, Times
 
 GREATEST_DEPTH = 2000
@@ -46,15 +48,9 @@ def check_depth(value):
         raise TooFar(GREATEST_DEPTH)
 
 
-def row_product(row, columns):
-    """The product of a row and a table of integers that is told by its columns."""
-    return [sum([one * other for one, other in zip(row, column)]) for column in columns]
-
-
-def squared(table, held):
-    """The product of a square table of integers with itself, each entry held within bounds."""
-    columns = [list(column) for column in zip(*table)]
-    return [[held(entry) for entry in row_product(row, columns)] for row in table]
+def squared_within(table, held):
+    """The product of a square table with itself, each entry held within bounds."""
+    return [[held(entry) for entry in row] for row in squared(table)]
 
 
 class Depths:
@@ -193,8 +189,8 @@ def total_modulo(table, number, modulus):
     steps = number + 1
     while steps > 0:
         if steps % 2 == 1:
-            row = [entry % modulus for entry in row_product(row, list(zip(*table)))]
-        table = squared(table, lambda entry: entry % modulus)
+            row = [entry % modulus for entry in row_product(row, turned_table(table))]
+        table = squared_within(table, lambda entry: entry % modulus)
         steps = steps // 2
     return row[-1]
 
@@ -206,12 +202,12 @@ def depth_with(table, wish):
     doubled = [table]
     # Entries above the wish are as good as the wish itself: all are at least 0.
     while len(doubled) < MOST_DOUBLINGS:
-        doubled.append(squared(doubled[-1], lambda entry: min(entry, wish)))
+        doubled.append(squared_within(doubled[-1], lambda entry: min(entry, wish)))
     row = [1] + [0 for _ in table[1:]]
     steps = 0
     for power in range(MOST_DOUBLINGS - 1, -1, -1):
         table = doubled[power]
-        new = row_product(row, list(zip(*table)))
+        new = row_product(row, turned_table(table))
         if new[-1] < wish:
             row = [min(entry, wish) for entry in new]
             steps = steps + (1 << power)

@@ -8,6 +8,7 @@ from growwebs.colourings import colours_at, is_right, options_of, words_of
 from growwebs.errors import BadNumber, BadRule, Endless, NoKind, OtherBook, TooFar, TooLong
 from growwebs.leadcounts import count_leads, count_to_depth, free_keys
 from growwebs.leadpairs import Chances, ascending_signs, colours_of_new, pairs_told
+from growwebs.levels import sum_at_depth
 from growwebs.rings import without_dead_ends
 from growwebs.rows import LONGEST_TUPLE, count_row
 from growwebs.rules import Rule
@@ -146,10 +147,9 @@ class Lead:
             raise BadNumber(depth)
         if depth > FARTHEST_LEVEL:
             raise TooFar(depth)
-        level = {(self.book.seed, ""): 1}
-        for _ in range(depth):
-            level = counts_one_deeper(self._belows, level)
-        return sum([level[key] * self.table[key].count(colour) for key in level])
+        numbers = {key: number for number, key in enumerate(list(self._belows))}
+        belows = [[numbers[below] for below in self._belows[key]] for key in self._belows]
+        return sum_at_depth(belows, [self.table[key].count(colour) for key in self._belows], depth)
 
     def first_apart(self, other):
         """The first place, shorter first, to which two leads give unlike colours, or None."""
@@ -166,15 +166,6 @@ class Lead:
                 if colour != other.table[key][number]:
                     return row, number
         return None
-
-
-def counts_one_deeper(belows, level):
-    """How often each key is there one deeper, of how often each one is."""
-    found = {}
-    for key in level:
-        for below in belows[key]:
-            found[below] = found.get(below, 0) + level[key]
-    return found
 
 
 def settled_colours(plan, rule, key, value):
